@@ -1,0 +1,1 @@
+"""What a shell script does, for all statuses of its commands."""
