@@ -2,11 +2,13 @@
 
 LONGEST_NAME = 12
 
-RESERVED = (
-    "def", "call", "status", "give", "zero", "keep", "put", "option", "trap", "on", "off",
-    "if", "then", "else", "while", "until", "times", "do", "end", "break", "next",
-    "return", "exit", "fail", "pipes",
-)
+# The words that are no names.
+RESERVED = {
+    "def": True, "call": True, "status": True, "give": True, "zero": True, "keep": True,
+    "put": True, "option": True, "trap": True, "on": True, "off": True, "if": True, "then": True,
+    "else": True, "while": True, "until": True, "times": True, "do": True, "end": True,
+    "break": True, "next": True, "return": True, "exit": True, "fail": True, "pipes": True,
+}
 
 
 def is_integer(value):
@@ -15,15 +17,15 @@ def is_integer(value):
 
 
 def is_integer_within(value, least, most):
-    return is_integer(value) and least <= value <= most
+    return isinstance(value, int) and not isinstance(value, bool) and least <= value <= most
 
 
 def is_status(value):
-    return is_integer(value) and value >= 0
+    return isinstance(value, int) and not isinstance(value, bool) and value >= 0
 
 
 def is_name(value):
     # The length comes first, so that a long string is not read to its end.
-    if not isinstance(value, str) or not 1 <= len(value) <= LONGEST_NAME:
+    if not isinstance(value, str) or len(value) > LONGEST_NAME:
         return False
-    return all(["a" <= letter <= "z" for letter in value]) and value not in RESERVED
+    return value.isascii() and value.isalpha() and value.islower() and value not in RESERVED

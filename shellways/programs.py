@@ -1,20 +1,20 @@
 """Programs: whether a value is one, how large it is, and its names."""
 
-from shellways.plans import OF_VARIABLES, plan_of
+from shellways.checks import checked
 
 
 def check_program(program):
     """Returns None if the value is a program; raises InvalidProgram otherwise."""
-    plan_of(program)
+    checked(program)
 
 
 def program_size(program):
     """Returns the number of trees and the unfolded size."""
-    plan = plan_of(program)
-    return len(plan.nodes), plan.main.unfolded
+    check = checked(program)
+    return check.trees, check.unfolded
 
 
 def command_names(program):
     """Returns the ascending lists of the names of commands and of variables."""
-    plan = plan_of(program)
-    return plan.names_of(("run",)), plan.names_of(OF_VARIABLES)
+    check = checked(program)
+    return sorted(check.commands), sorted(check.variables)

@@ -10,7 +10,7 @@ def run(program, row):
     plan = plan_of(program)
     check_row(row)
     walk, told = carried_out(plan, row)
-    return [node.entries[0] for node in told], outcome_of(walk, len(told))
+    return [node.tree[1] for node in told], outcome_of(walk, len(told))
 
 
 def asked_paths(program, row):
@@ -38,4 +38,4 @@ def outcome_of(walk, used):
         return ("silent", used)
     if walk.asking is None:
         return ("ended", walk.status, used)
-    return ("asks", walk.asking.entries[0])
+    return ("asks", walk.asking.tree[1])

@@ -1,7 +1,5 @@
 """What a program has come to: its open shells and the open trees in them."""
 
-from shellways.plans import OF_VARIABLES
-
 
 class Frame:
     """A tree that was begun and is not finished."""
@@ -19,6 +17,14 @@ class Frame:
         # A times: the number of rounds that are not finished.
         self.rounds = 0
 
+    def copied(self):
+        frame = Frame(self.node, self.tested)
+        frame.place = self.place
+        frame.held = self.held
+        frame.started = self.started
+        frame.rounds = self.rounds
+        return frame
+
 
 class Shell:
     """An open shell. Its frames go from the outermost open tree to the innermost."""
@@ -29,6 +35,8 @@ class Shell:
         self.variables = dict(variables)
         # The nodes of the trees that set the traps.
         self.traps = {"end": None, "fail": None}
+        # Whether it began to end, and whether it carried out an end trap.
+        self.ending = False
         self.end_begun = False
         self.frames = []
         # The number of open calls.
@@ -38,12 +46,15 @@ class Shell:
         # body, and the end of a shell leaves all its open trees.
         self.trap_started = None
 
-    def leave_all(self, status):
-        """Leaves all open trees, so that the shell ends with the status."""
-        self.last = status
-        self.frames.clear()
-        self.calls = 0
-        self.trap_started = None
+    def copied(self):
+        shell = Shell(self.last, self.options, self.variables)
+        shell.traps = dict(self.traps)
+        shell.ending = self.ending
+        shell.end_begun = self.end_begun
+        shell.frames = [frame.copied() for frame in self.frames]
+        shell.calls = self.calls
+        shell.trap_started = self.trap_started
+        return shell
 
 
 class Walk:
@@ -53,12 +64,12 @@ class Walk:
     ended (`status` is the end status) or is silent.
     """
 
-    def __init__(self, plan):
-        options = {"fail": False, "pipes": False}
-        variables = {name: 0 for name in plan.names_of(OF_VARIABLES)}
-        self.shells = [Shell(0, options, variables)]
+    def __init__(self, bodies):
+        # The nodes of the bodies of functions.
+        self.bodies = bodies
+        self.shells = []
         # The node that is begun next, None behind the end of a tree.
-        self.coming = plan.main
+        self.coming = None
         # Whether the tree that is begun next, or the run that asks, is tested.
         self.tested = False
         # The number of trees begun since a status was told.
@@ -66,6 +77,9 @@ class Walk:
         self.asking = None
         self.status = None
         self.silent = False
+        # None, or a dict of True whose keys tell what happened: tuples of a
+        # path, () for the first shell, and a word.
+        self.notes = None
 
     def open_shell(self, last):
         """Starts a new shell inside the innermost one."""
@@ -81,3 +95,24 @@ class Walk:
     def plan_next(self, node, tested):
         self.coming = node
         self.tested = tested
+
+    def note(self, path, word):
+        if self.notes is not None:
+            self.notes[(path, word)] = True
+
+    def copied(self):
+        """Returns an equal walk that asks for a command, too, without its notes."""
+        walk = Walk(self.bodies)
+        walk.shells = [shell.copied() for shell in self.shells]
+        walk.tested = self.tested
+        walk.asking = self.asking
+        return walk
+
+
+def walk_of(plan):
+    """Returns the walk of a program that is about to begin its main tree."""
+    walk = Walk(plan.bodies)
+    options = {"fail": False, "pipes": False}
+    walk.shells.append(Shell(0, options, {name: 0 for name in plan.variables}))
+    walk.plan_next(plan.main, False)
+    return walk

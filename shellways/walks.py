@@ -5,15 +5,17 @@ around it goes on by its action in RETURNS. What is open stands in the frames
 of the walk and not in calls of Python, for it may be a thousand deep.
 """
 
-from shellways.plans import LOOPS
-from shellways.states import Walk
+from shellways.leaving import (
+    begin_trap_body, leave_all, leave_to_call, leave_to_loop, note_end, pop_frame, return_to_trap, set_checked,
+)
+from shellways.states import walk_of
 
 MOST_BEGUN = 1000
 
 
 def started_walk(plan):
     """Returns the walk of a program before any status is told."""
-    walk = Walk(plan)
+    walk = walk_of(plan)
     go_on(walk)
     return walk
 
@@ -40,6 +42,8 @@ def begin(walk):
     node = walk.coming
     walk.coming = None
     walk.begun += 1
+    if walk.notes is not None:
+        walk.note(node.path, "begun")
     action = BEGINNINGS[node.word]
     action(walk, walk.shells[-1], node, walk.tested)
 
@@ -51,44 +55,16 @@ def go_back(walk):
         frame = shell.frames[-1]
         action = RETURNS[frame.node.word]
         action(walk, shell, frame)
-    elif shell.traps["end"] is not None and not shell.end_begun:
+        return
+    note_end(walk, shell, "over")
+    if shell.traps["end"] is not None and not shell.end_begun:
         shell.end_begun = True
         begin_trap_body(walk, shell, "end")
     else:
         close_shell(walk)
 
 
-# Checks, traps and the ends of shells. A shell in which nothing is open any
-# more, and nothing is to begin, ends with its last status.
-
-
-def set_checked(walk, status, tested):
-    """Sets the last status and carries out the check behind the tree."""
-    shell = walk.shells[-1]
-    shell.last = status
-    if tested or status == 0:
-        return
-    if shell.traps["fail"] is not None and shell.calls == 0:
-        begin_trap_body(walk, shell, "fail")
-    elif shell.options["fail"]:
-        shell.leave_all(status)
-
-
-def begin_trap_body(walk, shell, kind):
-    node = shell.traps[kind]
-    shell.trap_started = shell.last
-    walk.open_tree(node, True)
-    walk.plan_next(node.parts[0], True)
-
-
-def return_to_trap(walk, shell, frame):
-    status = shell.trap_started
-    shell.trap_started = None
-    shell.frames.pop()
-    shell.last = status
-    # Behind an end trap nothing is open, and the shell ends anyway.
-    if shell.options["fail"]:
-        shell.leave_all(status)
+# The ends of shells.
 
 
 def close_shell(walk):
@@ -127,37 +103,37 @@ def begin_run(walk, shell, node, tested):
 
 
 def begin_status(walk, shell, node, tested):
-    set_checked(walk, node.entries[0], tested)
+    set_checked(walk, node.tree[1], tested)
 
 
 def begin_give(walk, shell, node, tested):
-    set_checked(walk, shell.variables[node.entries[0]], tested)
+    set_checked(walk, shell.variables[node.tree[1]], tested)
 
 
 def begin_zero(walk, shell, node, tested):
-    value = shell.variables[node.entries[0]]
+    value = shell.variables[node.tree[1]]
     set_checked(walk, 0 if value == 0 else 1, tested)
 
 
 def begin_keep(walk, shell, node, tested):
-    shell.variables[node.entries[0]] = shell.last
+    shell.variables[node.tree[1]] = shell.last
     shell.last = 0
 
 
 def begin_put(walk, shell, node, tested):
-    name, number = node.entries
+    _, name, number = node.tree
     shell.variables[name] = number
     shell.last = 0
 
 
 def begin_option(walk, shell, node, tested):
-    word, switch = node.entries
+    _, word, switch = node.tree
     shell.options[word] = switch
     shell.last = 0
 
 
 def begin_trap(walk, shell, node, tested):
-    kind, body = node.entries
+    _, kind, body = node.tree
     shell.traps[kind] = None if body is None else node
     shell.last = 0
 
@@ -170,12 +146,13 @@ def begin_seq(walk, shell, node, tested):
 def begin_with_test(walk, shell, node, tested):
     """Begins an and, or, not, if, while or until: its first part is tested."""
     walk.open_tree(node, tested)
-    walk.plan_next(node.parts[0], True)
+    walk.plan_next(node.part(0), True)
 
 
 def begin_times(walk, shell, node, tested):
-    rounds = node.entries[0]
+    rounds = node.tree[1]
     if rounds == 0:
+        walk.note(node.path, "over")
         shell.last = 0
         return
     frame = walk.open_tree(node, tested)
@@ -184,48 +161,36 @@ def begin_times(walk, shell, node, tested):
 
 
 def begin_break(walk, shell, node, tested):
-    leave_to_loop(shell, node.entries[0])
-    shell.frames.pop()
+    leave_to_loop(walk, shell, node.tree[1], "break")
+    pop_frame(walk, shell, "break")
     shell.last = 0
 
 
 def begin_next(walk, shell, node, tested):
-    frame = leave_to_loop(shell, node.entries[0])
+    frame = leave_to_loop(walk, shell, node.tree[1], "next")
     # The round counts as a body even if the next stands in the condition.
     frame.place = len(frame.node.parts) - 1
     shell.last = 0
 
 
-def leave_to_loop(shell, count):
-    """Leaves all trees inside the loop with this number, and returns its frame."""
-    loops = 0
-    while True:
-        frame = shell.frames[-1]
-        if frame.node.word in LOOPS:
-            loops += 1
-        if loops == count:
-            return frame
-        shell.frames.pop()
-
-
 def begin_call(walk, shell, node, tested):
     walk.open_tree(node, tested)
     shell.calls += 1
-    walk.plan_next(node.body, tested)
+    walk.plan_next(walk.bodies[node.tree[1]], tested)
 
 
 def begin_return(walk, shell, node, tested):
-    while shell.frames[-1].node.word != "call":
-        shell.frames.pop()
-    if node.entries[0] is not None:
-        shell.last = node.entries[0]
+    leave_to_call(walk, shell)
+    if node.tree[1] is not None:
+        shell.last = node.tree[1]
+    finish_call(walk, shell, "return")
 
 
 def begin_exit(walk, shell, node, tested):
-    status = node.entries[0]
+    status = node.tree[1]
     if status is None:
         status = shell.last if shell.trap_started is None else shell.trap_started
-    shell.leave_all(status)
+    leave_all(walk, shell, status, "exit")
 
 
 def begin_new_shell(walk, shell, node, tested):
@@ -242,7 +207,7 @@ def begin_new_shell(walk, shell, node, tested):
 def begin_part(walk, frame, place):
     """Begins a part that is checked or tested as the tree itself is."""
     frame.place = place
-    walk.plan_next(frame.node.parts[place], frame.tested)
+    walk.plan_next(frame.node.part(place), frame.tested)
 
 
 def return_to_seq(walk, shell, frame):
@@ -282,11 +247,11 @@ def return_to_while(walk, shell, frame):
     if frame.place == 1:
         frame.held = shell.last
         frame.place = 0
-        walk.plan_next(frame.node.parts[0], True)
+        walk.plan_next(frame.node.part(0), True)
     elif went_well == (frame.node.word == "while"):
         begin_part(walk, frame, 1)
     else:
-        shell.frames.pop()
+        pop_frame(walk, shell, "over")
         shell.last = frame.held
 
 
@@ -295,11 +260,16 @@ def return_to_times(walk, shell, frame):
     if frame.rounds > 0:
         begin_part(walk, frame, 0)
     else:
-        shell.frames.pop()
+        pop_frame(walk, shell, "over")
 
 
 def return_to_call(walk, shell, frame):
-    shell.frames.pop()
+    finish_call(walk, shell, "over")
+
+
+def finish_call(walk, shell, word):
+    frame = shell.frames[-1]
+    pop_frame(walk, shell, word)
     # The call is not open any more at its own check.
     shell.calls -= 1
     set_checked(walk, shell.last, frame.tested)

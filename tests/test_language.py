@@ -16,7 +16,7 @@ METHODS = set((
     "append clear copy count endswith extend find get index insert isalnum isalpha isdigit islower "
     "isspace isupper items join keys ljust lower lstrip partition pop remove replace reverse rfind "
     "rjust rpartition rsplit rstrip setdefault split splitlines startswith strip update upper "
-    "values zfill bit_length add discard").split())
+    "values zfill bit_length add discard isascii").split())
 BARRED = ("type typing typing_extensions enum Enum IntEnum StrEnum Flag IntFlag Generic Protocol "
           "ABC ABCMeta namedtuple NamedTuple TypedDict TYPE_CHECKING abstractmethod _wall "
           "_WallAttr").split()
