@@ -2,12 +2,9 @@
 
 from shellways.errors import InvalidPath
 from shellways.machines import all_situations
-from shellways.plans import all_nodes, node_at, plan_of
+from shellways.plans import CAUSES, all_nodes, node_at, plan_of
 from shellways.rows import check_row
 from shellways.walks import started_walk, tell
-
-# The trees whose first part is tested: it is part 0 in each of them.
-CAUSES = ("and", "or", "not", "if", "while", "until", "trap")
 
 # The words for runs that are carried out checked or not, tested or not.
 MODES = {

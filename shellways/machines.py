@@ -47,15 +47,15 @@ def check_machine(program, rows):
         raise InvalidMachine(len(entries))
 
 
-def all_situations(plan, noting):
-    """Returns the situations of a program with all their steps; raises TooLarge."""
+def all_situations(plan, noting, most=MOST_SITUATIONS):
+    """Returns the situations of a program with all their steps; raises TooLarge if there are more."""
     every = Situations(plan, noting)
     number = 0
     while number < len(every.found):
         if every.found[number].walk.asking is not None:
             every.steps_of(number)
-        if len(every.found) > MOST_SITUATIONS:
-            raise TooLarge(MOST_SITUATIONS)
+        if len(every.found) > most:
+            raise TooLarge(most)
         number += 1
     return every
 

@@ -6,23 +6,15 @@ trees of a program does not wait for all of them.
 
 from shellways.checks import checked
 from shellways.kinds import is_integer
+from shellways.trees import parts_of
 
 LOOPS = ("while", "until", "times")
 
-# Where the trees directly inside a tree stand in it. In a seq and a pipe the
-# only entry is the tuple of these trees.
-PLACES = {
-    "trap": (2,),
-    "and": (1, 2),
-    "or": (1, 2),
-    "not": (1,),
-    "if": (1, 2, 3),
-    "while": (1, 2),
-    "until": (1, 2),
-    "times": (2,),
-    "sub": (1,),
-}
+# The trees whose parts are each in a new shell.
+STARTERS = ("sub", "pipe")
 
+# The trees whose first part is tested.
+CAUSES = ("and", "or", "not", "if", "while", "until", "trap")
 
 class Node:
     """One tree of a program, at its path."""
@@ -63,16 +55,6 @@ def plan_of(program):
     return Plan(program, checked(program))
 
 
-def parts_of(tree):
-    """Returns the trees directly inside the tree, in order."""
-    word = tree[0]
-    if word == "seq" or word == "pipe":
-        return tree[1]
-    if word not in PLACES:
-        return ()
-    return tuple([tree[place] for place in PLACES[word] if tree[place] is not None])
-
-
 def all_nodes(plan):
     """Returns the nodes of all trees of the program in reading order."""
     nodes = []
@@ -91,6 +73,18 @@ def nodes_within(node):
         nodes.append(node)
         for place in reversed(range(len(node.parts))):
             coming.append(node.part(place))
+    return nodes
+
+
+def nodes_of_shell(node):
+    """Returns the node and those of the trees inside it that are in the same shell."""
+    nodes = []
+    coming = [node]
+    while coming:
+        node = coming.pop()
+        nodes.append(node)
+        if node.word not in STARTERS:
+            coming.extend([node.part(place) for place in range(len(node.parts))])
     return nodes
 
 

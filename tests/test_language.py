@@ -21,7 +21,9 @@ BARRED = ("type typing typing_extensions enum Enum IntEnum StrEnum Flag IntFlag 
           "ABC ABCMeta namedtuple NamedTuple TypedDict TYPE_CHECKING abstractmethod _wall "
           "_WallAttr").split()
 BARRED_NAMES = set("register mro elements open input law version_info with_traceback add_note".split())
-FORBIDDEN = (ast.Global, ast.AsyncFunctionDef, ast.Await, ast.AsyncFor, ast.AsyncWith, ast.Lambda,
+LIBRARY = {"itertools": {"product", "combinations", "permutations"}, "math": {"gcd", "lcm", "isqrt", "comb"},
+           "heapq": {"heappush", "heappop", "heapify"}}
+FORBIDDEN = (ast.Global, ast.AsyncFunctionDef, ast.Await, ast.AsyncFor, ast.AsyncWith,
              ast.JoinedStr, ast.Div)
 
 
@@ -75,6 +77,9 @@ class Language(unittest.TestCase):
             imports = [node for node in body if isinstance(node, ast.ImportFrom)]
             self.assertEqual(body[:len(imports)], imports, name)
             for node in imports:
+                if node.module in LIBRARY:
+                    self.assertLessEqual({alias.name for alias in node.names}, LIBRARY[node.module])
+                    continue
                 self.assertRegex(node.module, r"^shellways\.\w+$", name)
                 home = ast.parse((FOLDER / (node.module.split(".")[1] + ".py")).read_text())
                 for alias in node.names:
@@ -83,7 +88,8 @@ class Language(unittest.TestCase):
 
     def test_imports_make_no_ring(self):
         needs = {name[:-3]: [node.module.split(".")[1] for node in tree.body
-                             if isinstance(node, ast.ImportFrom)] for name, tree in self.trees}
+                             if isinstance(node, ast.ImportFrom) and node.module not in LIBRARY]
+                 for name, tree in self.trees}
         while needs:
             free = [name for name, others in needs.items()
                     if not [other for other in others if other in needs]]
@@ -134,11 +140,60 @@ class Language(unittest.TestCase):
             if isinstance(node.ctx, ast.Store):
                 self.assertIsInstance(node.value, ast.Name, name)
 
+    def test_locals_have_no_name_of_a_class_or_import(self):
+        for name, tree in self.trees:
+            taken = {alias.name for node in tree.body if isinstance(node, ast.ImportFrom) for alias in node.names}
+            taken |= {node.name for node in tree.body if isinstance(node, ast.ClassDef)}
+            for node in ast.walk(tree):
+                if isinstance(node, ast.Name) and isinstance(node.ctx, ast.Store):
+                    self.assertNotIn(node.id, taken, name)
+                if isinstance(node, ast.arg):
+                    self.assertNotIn(node.arg, taken, name)
+
+    def test_stars_and_sets(self):
+        for name, node in self.nodes(ast.Starred):
+            if isinstance(node.ctx, ast.Load):
+                self.assertIsInstance(node.value, (ast.Name, ast.Attribute, ast.Subscript), name)
+        for name, tree in self.trees:
+            for node in ast.walk(tree):
+                for part in ast.iter_child_nodes(node):
+                    if isinstance(part, (ast.SetComp, ast.Set)) or called(part) == "set":
+                        self.assertTrue(called(node) in ("sorted", "len") or isinstance(node, (ast.Assign, ast.Compare)),
+                                        (name, node.lineno))
+            for function in ast.walk(tree):
+                if isinstance(function, ast.FunctionDef):
+                    self.check_stored_sets(name, function)
+
+    def check_stored_sets(self, name, function):
+        stored = [node.targets[0].id for node in ast.walk(function)
+                  if isinstance(node, ast.Assign) and called(node.value) == "set"]
+        self.assertEqual(len(stored), len(set(stored)), name)
+        for node in ast.walk(function):
+            if isinstance(node, ast.Return) and isinstance(node.value, ast.Name):
+                self.assertNotIn(node.value.id, stored, name)
+            if isinstance(node, ast.For) and isinstance(node.iter, ast.Name):
+                self.assertNotIn(node.iter.id, stored, name)
+
+    def test_views_are_iterated_at_once(self):
+        for name, tree in self.trees:
+            for node in ast.walk(tree):
+                if isinstance(node, (ast.Assign, ast.Return, ast.Compare, ast.Starred)):
+                    for part in ast.iter_child_nodes(node):
+                        self.assertNotIn(called(part), ("zip", "enumerate", "reversed", "items", "keys", "values", "map"),
+                                         (name, node.lineno))
+
     def test_is_only_with_constants(self):
         for name, node in self.nodes(ast.Compare):
             for sign, right in zip(node.ops, node.comparators):
                 if isinstance(sign, (ast.Is, ast.IsNot)):
                     self.assertIsInstance(right, ast.Constant, name)
+
+
+def called(node):
+    """The name of the function or method that a node calls."""
+    if not isinstance(node, ast.Call):
+        return None
+    return node.func.id if isinstance(node.func, ast.Name) else node.func.attr
 
 
 def bound_names(tree):

@@ -1,0 +1,128 @@
+"""Two programs side by side: the pairs of situations that the same rows lead to.
+
+A pair is a tuple (i, j, links): situations of both programs, and the ascending
+tuple of the pairs (slot of i, slot of j) that hold the same told failure.
+"""
+
+from shellways.errors import TooLarge
+
+START = (0, 0, ())
+
+# Numbers of programs are at most 255, so failures from here on equal none of them.
+FIRST_FAILURE = 256
+
+
+class Pairs:
+    """The pairs of the situations of two programs, which are found as they are needed."""
+
+    def __init__(self, one, other, sure, limit):
+        self.one = one
+        self.other = other
+        # Names of commands that are told no failure.
+        self.sure = sure
+        # How many pairs may be found from one start, None if any number.
+        self.limit = limit
+        # Pairs behind which all is the same, as far as this is known.
+        self.same = {}
+
+    def is_parted(self, pair):
+        """Returns whether both situations differ in what can be seen of them."""
+        i, j, links = pair
+        one = self.one.found[i].walk
+        other = self.other.found[j].walk
+        if one.asking is not None and other.asking is not None:
+            return one.asking.tree[1] != other.asking.tree[1]
+        if one.asking is not None or other.asking is not None or one.silent or other.silent:
+            return not (one.silent and other.silent)
+        # The symbol of a slot is below 0.
+        return one.status != other.status or (one.status < 0 and links != ((0, 0),))
+
+    def statuses(self, pair):
+        """Returns the statuses 0 and 1 with which both programs go on."""
+        asking = self.one.found[pair[0]].walk.asking
+        if asking is None:
+            return ()
+        return (0,) if asking.tree[1] in self.sure else (0, 1)
+
+    def behind(self, pair, status):
+        """Returns the pair behind a status."""
+        i, j, links = pair
+        after_i, moves_i = self.one.steps_of(i)[status]
+        after_j, moves_j = self.other.steps_of(j)[status]
+        linked = dict(links)
+        linked["now"] = "now"
+        slots = {move: slot for slot, move in enumerate(moves_j)}
+        joined = []
+        for slot, move in enumerate(moves_i):
+            if move in linked and linked[move] in slots:
+                joined.append((slot, slots[linked[move]]))
+        return after_i, after_j, tuple(joined)
+
+    def parting_row(self, start):
+        """Returns a shortest row of 0 and 1 that parts the programs, None if there is none."""
+        if self.is_parted(start):
+            return []
+        befores = {start: None}
+        coming = [start]
+        at = 0
+        while at < len(coming):
+            pair = coming[at]
+            at += 1
+            for status in self.statuses(pair):
+                after = self.behind(pair, status)
+                if after in befores or after in self.same:
+                    continue
+                befores[after] = (pair, status)
+                if self.is_parted(after):
+                    return row_to(befores, after)
+                self.keep_limit(len(befores))
+                coming.append(after)
+        for pair in befores:
+            self.same[pair] = True
+        return None
+
+    def keep_limit(self, many):
+        if self.limit is not None and many > self.limit:
+            raise TooLarge(self.limit)
+
+    def fewest_failures(self):
+        """Returns the least number of failures in a row that parts the programs, or None."""
+        known = {START: True}
+        done = {}
+        coming = [START]
+        failures = 0
+        while coming:
+            later = []
+            while coming:
+                pair = coming.pop()
+                if self.is_parted(pair):
+                    return failures
+                if pair in done:
+                    continue
+                done[pair] = True
+                for status in self.statuses(pair):
+                    after = self.behind(pair, status)
+                    known[after] = True
+                    if status:
+                        later.append(after)
+                    else:
+                        coming.append(after)
+                self.keep_limit(len(known))
+            coming = later
+            failures += 1
+        return None
+
+
+def row_to(befores, pair):
+    """Returns the row of 0 and 1 on which a pair was found."""
+    row = []
+    while befores[pair] is not None:
+        pair, status = befores[pair]
+        row.append(status)
+    row.reverse()
+    return row
+
+
+def told_row(row):
+    """Returns the row of 0 and 1 with another number for each failure, and none of a program."""
+    return [FIRST_FAILURE + index if status else 0 for index, status in enumerate(row)]
