@@ -109,10 +109,10 @@ class FirstRows(unittest.TestCase):
         self.assert_rows("a && ( trap end { z } ; b || exit ) ; c", [0, 0])
         self.assert_rows("trap end { trap fail { y } ; z ; ( trap fail { x } ; c ) } ; a", [0], None, None)
         self.assert_rows("if a && trap fail { z } then b end", [0, 1])
-        self.assert_rows("trap fail { trap end { y } ; z } ; a ; b", [1], [1, 0, 0])
+        self.assert_rows("trap fail { trap end { y } ; z } ; a ; b", [1], [0, 1, 0])
         self.assert_rows("trap fail { z } ; trap fail off ; a", None)
         self.assert_rows("exit ; trap end { z }", None)
-        self.assert_rows("trap end { z } | trap end { y } ; a", [], [])
+        self.assert_rows("trap end { z } | trap end { y } ; a", [], [0])
 
     def test_least_of_several(self):
         # Two failures, or one failure at the second command: [1, 1] comes behind [0, 1].
