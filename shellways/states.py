@@ -77,6 +77,8 @@ class Walk:
         self.asking = None
         self.status = None
         self.silent = False
+        # Whether none of these three is so yet.
+        self.going = True
         # None, or a dict of True whose keys tell what happened: tuples of a
         # path, () for the first shell, and a word.
         self.notes = None
@@ -106,6 +108,7 @@ class Walk:
         walk.shells = [shell.copied() for shell in self.shells]
         walk.tested = self.tested
         walk.asking = self.asking
+        walk.going = False
         return walk
 
 

@@ -24,28 +24,26 @@ def tell(walk, status):
     """Tells the status of the command that the walk asks for."""
     walk.asking = None
     walk.begun = 0
+    walk.going = True
     set_checked(walk, status, walk.tested)
     go_on(walk)
 
 
 def go_on(walk):
-    while walk.asking is None and walk.status is None and not walk.silent:
-        if walk.coming is None:
+    while walk.going:
+        node = walk.coming
+        if node is None:
             go_back(walk)
         elif walk.begun == MOST_BEGUN:
             walk.silent = True
+            walk.going = False
         else:
-            begin(walk)
-
-
-def begin(walk):
-    node = walk.coming
-    walk.coming = None
-    walk.begun += 1
-    if walk.notes is not None:
-        walk.note(node.path, "begun")
-    action = BEGINNINGS[node.word]
-    action(walk, walk.shells[-1], node, walk.tested)
+            walk.coming = None
+            walk.begun += 1
+            if walk.notes is not None:
+                walk.note(node.path, "begun")
+            action = BEGINNINGS[node.word]
+            action(walk, walk.shells[-1], node, walk.tested)
 
 
 def go_back(walk):
@@ -76,6 +74,7 @@ def close_shell(walk):
         action(walk, shell, frame, status)
     else:
         walk.status = status
+        walk.going = False
 
 
 def return_from_sub(walk, shell, frame, status):
@@ -100,6 +99,7 @@ def return_from_part(walk, shell, frame, status):
 
 def begin_run(walk, shell, node, tested):
     walk.asking = node
+    walk.going = False
 
 
 def begin_status(walk, shell, node, tested):
