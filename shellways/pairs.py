@@ -32,7 +32,7 @@ class Pairs:
         other = self.other.found[j].walk
         if one.asking is not None and other.asking is not None:
             return one.asking.tree[1] != other.asking.tree[1]
-        if one.asking is not None or other.asking is not None or one.silent or other.silent:
+        if one.status is None or other.status is None:
             return not (one.silent and other.silent)
         # The symbol of a slot is below 0.
         return one.status != other.status or (one.status < 0 and links != ((0, 0),))

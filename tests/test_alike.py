@@ -97,6 +97,16 @@ class Alike(unittest.TestCase):
             self.assertEqual(len(row), 1)
             self.assertTrue(shows_parting(main(A), main(("or", A, status(number))), row))
 
+    def test_failures_of_parting_rows_at_each_place(self):
+        """They equal no number of a program, wherever they stand."""
+        for place in range(0, 260, 20):
+            for number in (1, 235, 254, 255):
+                text = "a ; " * place + "b"
+                program, other = read_program(text), read_program(text + f" || status {number}")
+                row = parting_row(program, other)
+                self.assertEqual((len(row), row[:-1]), (place + 1, [0] * place))
+                self.assertTrue(shows_parting(program, other, row))
+
     def test_samples(self):
         counts = {True: 0, False: 0}
         for program, other in pairs_of_samples(range(500), (6, 12, 25, 40)):

@@ -211,6 +211,8 @@ class LiveVariables(unittest.TestCase):
         self.assert_live("put x 3 ; a ; zero x && give y", [(0, "x")], None)
         self.assert_live("put x 3 ; a ; ! zero x ; ! give x", [(0, "x")], None)
         self.assert_live("put x 3 ; a ; zero x ; status 0", [], None)
+        y = [(0, "y")]
+        self.assert_live("a ; keep x ; b ; keep y ; c ; give y", [], [], [], y, y, y, y, None, None)
 
     def test_values_of_the_same_kind(self):
         # Whether x is 0 is all that matters, or which failure it is.

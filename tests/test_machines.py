@@ -120,7 +120,10 @@ class Machines(unittest.TestCase):
         for text, many in (("a && option pipes on ; b", 5), ("a && trap end { z } ; b", 7), ("a && trap end off ; b", 4),
                            ("times 3 do a end", 5), ("times 2 do times 2 do a end end", 6),
                            ("def f { a } call f ; call f", 4), ("( a ) ; ( a )", 4),
-                           ("if a then trap fail { z } else trap fail { z } end ; b", 7)):
+                           ("if a then trap fail { z } else trap fail { z } end ; b", 7),
+                           # The bodies are those of two traps, also when neither is set any more.
+                           ("if a then trap fail { trap fail off ; z } else trap fail { trap fail off ; z } end ; b", 7),
+                           ("if a then trap end { trap end off ; z } else trap end { trap end off ; z } end ; b", 9)):
             self.assertEqual(situations(read_program(text)), many, text)
 
     def test_same_number_of_a_variable(self):

@@ -105,6 +105,27 @@ class Papers(unittest.TestCase):
         for more in ((0, 1, ()), (slot, slot, ()), (end, slot, ()), (slot, end, ()), (0, end, ()), (end, end, ((0, 0),))):
             self.assertIs(shows_alike(program, other, paper + [more]), False)
 
+    def test_links_of_more_tuples(self):
+        """Links are ascending pairs of slots, and no slot is linked twice."""
+        program = read_program("a ; keep x ; b ; keep y ; c ; status 0")
+        paper = self.assert_paper(program, program)
+        full = [number for number, entry in enumerate(machine(program)) if entry[0] == "ask" and entry[3] == 2][0]
+        for links in ((), ((0, 0),), ((0, 1),), ((1, 0),), ((0, 0), (1, 1)), ((0, 1), (1, 0))):
+            self.assertIs(shows_alike(program, program, paper + [(full, full, links)]), True, links)
+        for links in (((1, 1), (0, 0)), ((1, 0), (0, 1)), ((0, 0), (0, 0)), ((0, 0), (0, 1)), ((0, 0), (1, 0)), ((0, 2),), ((2, 0),),
+                      ((0, -1),), ((-1, 0),), ((0, 0), (1, 1), (1, 1))):
+            self.assertIs(shows_alike(program, program, paper + [(full, full, links)]), False, links)
+
+    def test_links_between_other_numbers_of_slots(self):
+        two, one = read_program("a ; keep x ; b ; keep y ; c ; status 0"), read_program("a ; keep x ; b ; c ; status 0")
+        paper, turned = self.assert_paper(two, one), self.assert_paper(one, two)
+        places = [[number for number, entry in enumerate(machine(program)) if entry[0] == "ask" and entry[3] == slots][-1]
+                  for program, slots in ((two, 2), (one, 1))]
+        for links, right in ((((1, 0),), True), (((0, 0),), True), (((0, 1),), False), (((1, 1),), False)):
+            back = tuple((b, a) for a, b in links)
+            self.assertIs(shows_alike(two, one, paper + [(places[0], places[1], links)]), right)
+            self.assertIs(shows_alike(one, two, turned + [(places[1], places[0], back)]), right)
+
     def test_more_situations_than_rows_lead_to(self):
         """Tuples that no row leads to may occur if what is behind them does, too."""
         one = read_program("a ; if a then b else b end")
