@@ -87,27 +87,36 @@ class Pairs:
 
     def fewest_failures(self):
         """Returns the least number of failures in a row that parts the programs, or None."""
+        if self.is_parted(START):
+            return 0
         known = {START: True}
         done = {}
         coming = [START]
         failures = 0
         while coming:
             later = []
+            parted = False
             while coming:
                 pair = coming.pop()
-                if self.is_parted(pair):
-                    return failures
                 if pair in done:
                     continue
                 done[pair] = True
                 for status in self.statuses(pair):
                     after = self.behind(pair, status)
-                    known[after] = True
-                    if status:
-                        later.append(after)
+                    if self.is_parted(after):
+                        if status == 0:
+                            return failures
+                        # Other rows with as few failures as so far may part the programs, too.
+                        parted = True
                     else:
-                        coming.append(after)
+                        known[after] = True
+                        if status == 0:
+                            coming.append(after)
+                        else:
+                            later.append(after)
                 self.keep_limit(len(known))
+            if parted:
+                return failures + 1
             coming = later
             failures += 1
         return None

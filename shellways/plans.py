@@ -90,7 +90,7 @@ def nodes_of_shell(node):
 
 def node_at(plan, path):
     """Returns the node at the path, None if the value is not the path of a tree."""
-    if not isinstance(path, tuple) or not path or not all([is_integer(place) for place in path]):
+    if not isinstance(path, tuple) or not all([is_integer(place) for place in path]):
         return None
     roots = {(-1,): plan.main}
     for body in plan.bodies.values():

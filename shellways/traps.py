@@ -2,7 +2,6 @@
 
 from shellways.checks import checked
 from shellways.errors import InvalidProgram, Mismatch, TooLarge
-from shellways.kinds import is_name
 from shellways.machines import all_situations
 from shellways.plans import CAUSES, all_nodes, nodes_of_shell, nodes_within, plan_of
 from shellways.situations import row_behind
@@ -95,9 +94,9 @@ def trap_body(plan, kind):
 
 
 def new_name(names):
-    """Returns a name that is none of these."""
-    candidates = [first + last for first in [""] + list(LETTERS) for last in LETTERS]
-    return [name for name in candidates if is_name(name) and name not in names][0]
+    """Returns a name that is none of these, of which there are at most 40."""
+    candidates = list(LETTERS) + ["a" + letter for letter in LETTERS]
+    return [name for name in candidates if name not in names][0]
 
 
 def tested_body(body, name):
@@ -118,8 +117,6 @@ def spelled_out(tree, behind):
     """Returns the tree with these trees behind each of its trees that is checked in this shell."""
     if tree[0] in CHECKED:
         return ("seq", (tree, *behind))
-    if tree[0] == "trap":
-        return tree
     parts = list(parts_of(tree))
     for place, part in enumerate(parts_of(tree)):
         if place > 0 or tree[0] not in CAUSES:

@@ -189,7 +189,9 @@ class Spelled(unittest.TestCase):
                      "if ( trap fail { y } ; a ) then b end", "call h", "a ; trap end off ; b", "put x 3 ; give x"):
             for body in ("z", "z ; y", "! z", "keep w ; exit", "exit", "exit 9", "z || exit", "z && exit 2", "( exit )",
                          "( z ; exit ) ; y", "while z do y ; break 1 end", "trap end { exit }", "call f", "keep x ; z",
-                         "trap end { ( exit ) ; w } ; z && exit", "z | ( exit ) | exit"):
+                         "trap end { ( exit ) ; w } ; z && exit", "z | ( exit ) | exit", "( z ; exit ) && y",
+                         "{ z ; exit } | { y ; exit } && w", "trap end { exit } ; exit 3", "trap end { z ; exit } ; y && exit 2",
+                         "if ( z ; exit ) then exit end"):
                 self.check_fail("def f { a ; b } def g { return 5 } def h { ( trap fail { y } ; a ) } trap fail { "
                           + body + " } ; " + text)
 
@@ -200,7 +202,8 @@ class Spelled(unittest.TestCase):
                      "( trap end { y } ; a ) ; b", "call g", "until a do next 1 ; b end", "trap fail { exit } ; a"):
             for body in ("z", "z ; y", "! z", "exit", "exit 9", "z || exit", "z && exit 2", "( exit )", "( z ; exit ) ; y",
                          "while z do y ; break 1 end", "( trap end { exit } ; z )", "option fail on ; z ; y",
-                         "if z then exit else status 3 end", "( option fail on ; z ; y ) && exit"):
+                         "if z then exit else status 3 end", "( option fail on ; z ; y ) && exit", "( z ; exit ) && y",
+                         "( trap end { z ; exit } ; y && exit 2 ) && w"):
                 self.check_end("def f { a && b ; exit } def g { ( trap end { y } ; a ) } trap end { " + body + " } ; " + text)
 
     def test_example(self):

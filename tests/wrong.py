@@ -14,7 +14,7 @@ NO_PROGRAMS = (
 
 # Values of many kinds that are no paths.
 NO_PATHS = (None, True, -1, 0, "", "a", b"a", [], [-1], [(-1,)], {}, {-1}, frozenset([-1]), (), (None,), (True,),
-            (-2,), (20,), (10 ** 30,), ("a",), ((-1,),), ([],), (-1, -1), (-1, 99), (-1, None), (-1, False), (-1, 0.5j),
+            (-2,), (-2, 0), (20,), (20, 0, 0), (10 ** 30,), (10 ** 30, 0), ("a",), ((-1,),), ([],), (-1, -1), (-1, 99), (-1, None), (-1, False), (-1, 0.5j),
             object(), ShellError("x"), range(1), (-1,) * 3, (-1, 0) * 40)
 
 # Values of many kinds that are no lists or tuples of statuses, with the index of their fault.
