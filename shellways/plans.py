@@ -64,28 +64,24 @@ def all_nodes(plan):
     return nodes
 
 
-def nodes_within(node):
-    """Returns the node and those of all trees inside it, in reading order."""
+def nodes_within(node, closed=()):
+    """Returns the node and those of all trees inside it, in reading order.
+
+    Trees inside those with one of the closed words are left out.
+    """
     nodes = []
     coming = [node]
     while coming:
         node = coming.pop()
         nodes.append(node)
-        for place in reversed(range(len(node.parts))):
-            coming.append(node.part(place))
+        if node.word not in closed:
+            coming.extend([node.part(place) for place in reversed(range(len(node.parts)))])
     return nodes
 
 
 def nodes_of_shell(node):
     """Returns the node and those of the trees inside it that are in the same shell."""
-    nodes = []
-    coming = [node]
-    while coming:
-        node = coming.pop()
-        nodes.append(node)
-        if node.word not in STARTERS:
-            coming.extend([node.part(place) for place in range(len(node.parts))])
-    return nodes
+    return nodes_within(node, STARTERS)
 
 
 def node_at(plan, path):

@@ -2,6 +2,9 @@
 
 import random
 
+from shellways.errors import InvalidProgram
+from shellways.programs import check_program
+
 LEAVES = ("run", "run", "run", "run", "status", "status", "give", "zero", "keep", "put", "option",
           "option", "trap", "break", "next", "call", "return", "exit", "exit")
 CALM_LEAVES = ("run",) * 12 + LEAVES
@@ -70,3 +73,16 @@ class Sampler:
         if word == "exit" or word == "return" and returns:
             return (word, self.chance.choice((None, 0, 5)))
         return ("run", self.chance.choice("abc"))
+
+
+def sampled(seeds, sizes):
+    """Yields the tuples (program, sampler) of those seeds with which the program is valid."""
+    for seed in seeds:
+        sampler = Sampler(seed)
+        program = sampler.program(sizes[seed % len(sizes)])
+        try:
+            check_program(program)
+        except InvalidProgram:
+            # Rounds and calls may unfold to too many trees.
+            continue
+        yield program, sampler

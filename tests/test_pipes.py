@@ -4,10 +4,10 @@ import unittest
 
 from shellways.errors import InvalidProgram
 from shellways.pipes import needless, new_shells, without_needless
-from shellways.programs import check_program, program_size
+from shellways.programs import program_size
 from shellways.texts import program_text, read_program
 from tests.brute import are_same
-from tests.samples import Sampler
+from tests.samples import sampled
 from tests.trees import A, B, C, main, nested, pipe, seq
 from tests.wrong import NO_PROGRAMS, assert_error
 
@@ -99,16 +99,6 @@ def leaned_step_by_step(program, last):
         program = replaced(program, *steps[-1 if last else 0])
 
 
-def sampled(seeds, sizes):
-    for seed in seeds:
-        program = Sampler(seed).program(sizes[seed % len(sizes)])
-        try:
-            check_program(program)
-        except InvalidProgram:
-            continue
-        yield program
-
-
 class NewShells(unittest.TestCase):
     def assert_shells(self, text, *expected):
         self.assertEqual(new_shells(read_program(text)), list(expected), text)
@@ -157,7 +147,7 @@ class NewShells(unittest.TestCase):
                            ((-1, 0), [("option", "pipes")] + [("variable", "v" + name) for name in names[:10]]))
 
     def test_samples(self):
-        for program in sampled(range(500), (6, 12, 25, 50)):
+        for program, _ in sampled(range(500), (6, 12, 25, 50)):
             expected = [(path, sorted(plain_sets(program, tree) - {"exit"})) for path, tree, around in all_trees(program)
                         if around is not None and around[0] in ("sub", "pipe")]
             self.assertEqual(new_shells(program), expected)
@@ -205,7 +195,7 @@ class Needless(unittest.TestCase):
 
     def test_samples(self):
         found = 0
-        for program in sampled(range(800), (6, 12, 25, 50)):
+        for program, _ in sampled(range(800), (6, 12, 25, 50)):
             self.assertEqual(needless(program), plain_needless(program))
             found += len(needless(program))
         self.assertGreater(found, 400)
@@ -255,7 +245,7 @@ class WithoutNeedless(unittest.TestCase):
 
     def test_samples(self):
         changed = 0
-        for program in sampled(range(300), (6, 12, 25, 40)):
+        for program, _ in sampled(range(300), (6, 12, 25, 40)):
             result = without_needless(program)
             self.assertEqual(result, leaned_step_by_step(program, False))
             self.assertEqual(result, leaned_step_by_step(program, True))

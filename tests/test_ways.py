@@ -169,7 +169,7 @@ class Ends(unittest.TestCase):
 class Samples(unittest.TestCase):
     def test_samples(self):
         """All rows up to a length, in a second way."""
-        for seed in range(400):
+        for seed in range(250):
             program = Sampler(seed).program((6, 12, 25, 40)[seed % 4])
             try:
                 plan = plan_of(program)
