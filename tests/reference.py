@@ -51,7 +51,7 @@ class Shell:
 
 
 class Open:
-    """An open tree: what it holds, and its rounds."""
+    """An open tree: what it holds, and its rounds left or the number of its part."""
 
     def __init__(self, path, word):
         self.path = path
@@ -232,6 +232,8 @@ class Walker:
         entry = self.open[-1]
         entry.holds = [shell.last, 0]
         for place, part in enumerate(tree[1]):
+            # In an end trap of a part, the part itself is not open any more.
+            entry.rounds = place
             inner = Shell(shell.last, dict(shell.options), dict(shell.variables))
             status = yield from self.in_shell(inner, part, path + (place,), tested)
             if status:

@@ -8,6 +8,7 @@ from shellways.programs import check_program
 LEAVES = ("run", "run", "run", "run", "status", "status", "give", "zero", "keep", "put", "option",
           "option", "trap", "break", "next", "call", "return", "exit", "exit")
 CALM_LEAVES = ("run",) * 12 + LEAVES
+RICH_LEAVES = ("run",) * 9 + ("keep",) * 3 + ("give",) * 2 + LEAVES[4:]
 JOINS = ("seq", "seq", "seq", "and", "or", "not", "if", "if", "while", "until", "times", "sub",
          "sub", "pipe", "trap", "trap")
 
@@ -75,10 +76,18 @@ class Sampler:
         return ("run", self.chance.choice("abc"))
 
 
-def sampled(seeds, sizes):
+class RichSampler(Sampler):
+    """Programs that ask and keep much."""
+
+    def __init__(self, seed):
+        super().__init__(seed)
+        self.leaves = RICH_LEAVES
+
+
+def sampled(seeds, sizes, sampler_of=Sampler):
     """Yields the tuples (program, sampler) of those seeds with which the program is valid."""
     for seed in seeds:
-        sampler = Sampler(seed)
+        sampler = sampler_of(seed)
         program = sampler.program(sizes[seed % len(sizes)])
         try:
             check_program(program)

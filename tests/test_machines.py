@@ -7,7 +7,7 @@ from shellways.machines import after, check_machine, machine, situations
 from shellways.programs import command_names
 from shellways.texts import read_program
 from tests.reference import Told, reference_machine
-from tests.samples import sampled
+from tests.samples import RichSampler, sampled
 from tests.trees import A, B, C, FAIL_ON, PIPES_ON, Z, main, pipe, seq, status
 from tests.wrong import NO_PROGRAMS, NO_ROWS, assert_error
 
@@ -114,6 +114,11 @@ class Machines(unittest.TestCase):
                            ("if a then trap end { trap end off ; z } else trap end { trap end off ; z } end ; b", 9)):
             self.assertEqual(situations(read_program(text)), many, text)
 
+    def test_end_traps_of_parts(self):
+        """The same trap tree ends two parts of a pipe, which are told apart."""
+        self.assertEqual([entry[:3] for entry in of_text("def f { trap end { c } } call f | call f | a")],
+                         [("ask", (0, 0), "c")] * 2 + [("ask", (-1, 2), "a"), ("end", 0), ("end", "slot")])
+
     def test_same_number_of_a_variable(self):
         self.assertEqual(situations(read_program("if a then put x 3 else put x 3 end ; b")), 4)
         self.assertEqual(situations(read_program("if a then put x 3 else put x 4 end ; b")), 5)
@@ -153,16 +158,22 @@ class Machines(unittest.TestCase):
 
     def test_samples(self):
         """The same machines as found by a second way to carry out programs."""
+        self.compare(sampled(range(800), (3, 6, 12, 25, 40)), 30)
+
+    def test_samples_that_keep_much(self):
+        self.compare(sampled(range(600), (12, 20, 30, 40), RichSampler), 60)
+
+    def compare(self, samples, least):
         largest = 0
-        for program, _ in sampled(range(1000), (3, 6, 12, 25, 40)):
-            expected = reference_machine(program, command_names(program)[1], 50)
+        for program, _ in samples:
+            expected = reference_machine(program, command_names(program)[1], 120)
             if expected is not None:
                 rows = machine(program)
                 self.assertEqual(rows, expected, program)
                 self.assertEqual(situations(program), len(rows))
                 self.assertIsNone(check_machine(program, rows))
                 largest = max(largest, len(rows))
-        self.assertGreater(largest, 30)
+        self.assertGreater(largest, least)
 
     def test_programs_that_hold_much(self):
         keeping = ("times", 2, seq(A, ("keep", "x"), ("if", B, ("keep", "y"), ("give", "x"))))
