@@ -130,13 +130,10 @@ def matters(pairs, number, place, name):
     if situation.walk.shells[place].variables[name] != 0:
         values.append(0)
     for value in values:
-        walk = situation.walk.copied()
-        shell = walk.shells[place]
-        shell.variables[name] = value
-        after, symbols = pairs.one.number_of(walk)
+        changed, symbols = pairs.one.number_with(number, place, name, value)
         places = {symbol: slot for slot, symbol in enumerate(symbols)}
         links = [(slot, places[-1 - slot]) for slot in range(situation.slots) if -1 - slot in places]
-        if pairs.parting_row((number, after, tuple(links))) is not None:
+        if pairs.is_apart((number, changed, tuple(links))):
             return True
     return False
 

@@ -22,8 +22,10 @@ class Pairs:
         self.sure = sure
         # How many pairs may be found from one start, None if any number.
         self.limit = limit
-        # Pairs behind which all is the same, as far as this is known.
+        # Pairs behind which all is the same, and pairs behind which something
+        # parts the programs, as far as this is known.
         self.same = {}
+        self.apart = {}
 
     def is_parted(self, pair):
         """Returns whether both situations differ in what can be seen of them."""
@@ -58,11 +60,14 @@ class Pairs:
                 joined.append((slot, slots[linked[move]]))
         return after_i, after_j, tuple(joined)
 
-    def parting_row(self, start):
-        """Returns a shortest row of 0 and 1 that parts the programs, None if there is none."""
-        if self.is_parted(start):
-            return []
+    def search(self, start):
+        """Looks for a pair that is parted, from a pair on.
+
+        Returns how the pairs were found, as row_to takes it, and the parted one or None.
+        """
         befores = {start: None}
+        if self.is_parted(start) or start in self.apart:
+            return befores, start
         coming = [start]
         at = 0
         while at < len(coming):
@@ -73,13 +78,33 @@ class Pairs:
                 if after in befores or after in self.same:
                     continue
                 befores[after] = (pair, status)
-                if self.is_parted(after):
-                    return row_to(befores, after)
+                if self.is_parted(after) or after in self.apart:
+                    return befores, after
                 self.keep_limit(len(befores))
                 coming.append(after)
         for pair in befores:
             self.same[pair] = True
-        return None
+        return befores, None
+
+    def parting_row(self, start):
+        """Returns a shortest row of 0 and 1 that parts the programs, None if there is none."""
+        befores, parted = self.search(start)
+        return None if parted is None else row_to(befores, parted)
+
+    def is_apart(self, start):
+        """Returns whether some row parts the programs, from a pair on.
+
+        What is found is kept, for questions about many pairs. Rows that are
+        asked for behind this need not be the shortest ones.
+        """
+        if start in self.same:
+            return False
+        befores, parted = self.search(start)
+        step = None if parted is None else (parted, None)
+        while step is not None:
+            self.apart[step[0]] = True
+            step = befores[step[0]]
+        return parted is not None
 
     def keep_limit(self, many):
         if self.limit is not None and many > self.limit:

@@ -14,10 +14,11 @@ from shellways.walks import go_on, tell
 class Situation:
     """A situation, with one walk that has come to it."""
 
-    def __init__(self, walk, slots):
+    def __init__(self, walk, slots, outline):
         self.walk = walk
         # The number of slots.
         self.slots = slots
+        self.outline = outline
         # The two steps (number, moves), behind 0 and behind a failure; None if
         # nothing looked for them, or if it does not ask.
         self.steps = None
@@ -43,15 +44,27 @@ class Situations:
 
     def number_of(self, walk):
         """Returns the number of the situation of a walk, and the symbols that stand in its slots."""
-        held = held_statuses(walk)
-        symbols = symbols_among(held)
-        places = {symbol: -1 - place for place, symbol in enumerate(symbols)}
-        key = (outline_of(walk), tuple([places.get(status, status) for status in held]))
+        outline = outline_of(walk)
+        places, key = key_of(outline, held_statuses(walk))
         if key not in self.numbers:
             self.numbers[key] = len(self.found)
             rename(walk, places)
-            self.found.append(Situation(walk, len(symbols)))
-        return self.numbers[key], symbols
+            self.found.append(Situation(walk, len(places), outline))
+        return self.numbers[key], list(places)
+
+    def number_with(self, number, place, name, value):
+        """Returns the same for a situation in which a variable of an open shell has another value."""
+        situation = self.found[number]
+        names = list(situation.walk.shells[place].variables)
+        held = held_statuses(situation.walk)
+        held[place * len(names) + names.index(name)] = value
+        places, key = key_of(situation.outline, held)
+        if key in self.numbers:
+            return self.numbers[key], list(places)
+        walk = situation.walk.copied()
+        shell = walk.shells[place]
+        shell.variables[name] = value
+        return self.number_of(walk)
 
     def steps_of(self, number):
         """Returns the steps of a situation that asks."""
@@ -110,13 +123,13 @@ def add_held(held, shell, frame):
             pass
 
 
-def symbols_among(held):
-    """Returns the different symbols in the order in which they stand first."""
-    symbols = {}
+def key_of(outline, held):
+    """Returns the symbols of the slots, with their new names, and the key of a situation."""
+    places = {}
     for status in held:
-        if status < 0:
-            symbols[status] = True
-    return list(symbols)
+        if status < 0 and status not in places:
+            places[status] = -1 - len(places)
+    return places, (outline, tuple([places.get(status, status) for status in held]))
 
 
 def rename(walk, places):
