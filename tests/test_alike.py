@@ -21,6 +21,8 @@ ALIKE = (
     ("if a then b else status 0 end", "if a then b end"), ("times 2 do a end", "a ; a"),
     ("while a do b end", "while a do ( b ) end"), ("a ; keep x ; b ; give x", "a ; keep y ; b ; give y"),
     ("a || b", "if a then status 0 else b end"),
+    ("a || { keep x ; b || { keep y ; c ; give y } }", "a || { b || { keep y ; c ; give y } }"),
+    ("a || { keep x ; b || { keep y ; c ; give y } }", "a || { keep y ; b || { keep x ; c ; give x } }"),
     ("status 3 ; exit", "exit 3"), ("a ; status 3", "a ; exit 3"), ("trap end { b } ; a", "a ; keep x ; ! b ; give x"),
     ("while status 0 do status 0 end", "until status 1 do put x 2 end"),
     ("a ; keep x ; b ; keep x ; give x", "a ; b"), ("a | b", "a ; b"), ("def f { return 3 ; a } call f", "status 3"),
