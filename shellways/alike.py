@@ -6,14 +6,13 @@ from shellways.checks import checked
 from shellways.errors import InvalidName, TooLarge
 from shellways.kinds import is_integer, is_name
 from shellways.machines import all_situations
-from shellways.pairs import START, Pairs, told_row
+from shellways.pairs import MOST_PAIRS, START, Pairs, told_row
 from shellways.plans import plan_of
 from shellways.rows import check_row
 from shellways.shells import carried_out, outcome_of
-from shellways.situations import Situations
+from shellways.situations import situations_of
 from shellways.trees import changed_program
 
-MOST_PAIRS = 2000
 MOST_COMMANDS = 8
 
 
@@ -23,8 +22,8 @@ def alike(program, other):
 
 
 def pairs_of(program, other, sure):
-    one = Situations(plan_of(program), False)
-    return Pairs(one, Situations(plan_of(other), False), sure, MOST_PAIRS)
+    one = situations_of(plan_of(program), False)
+    return Pairs(one, situations_of(plan_of(other), False), sure, MOST_PAIRS)
 
 
 def parting_row(program, other):
@@ -129,7 +128,7 @@ def least_sure(program, other):
     names = sorted({name for plan in plans for name in plan.check.commands})
     if len(names) > MOST_COMMANDS:
         raise TooLarge(MOST_COMMANDS)
-    one, two = [Situations(plan, False) for plan in plans]
+    one, two = [situations_of(plan, False) for plan in plans]
     # The commands that fail in rows that part the programs: one of each is in every answer.
     failing = []
     for many in range(len(names) + 1):

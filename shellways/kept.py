@@ -1,10 +1,10 @@
 """Which failures the end of a program tells, and which variables matter."""
 
 from shellways.errors import InvalidName, TooLarge
-from shellways.machines import all_situations
-from shellways.pairs import START, Pairs, row_to
+from shellways.machines import all_situations, situations_of_small
+from shellways.pairs import Pairs, is_alike
 from shellways.plans import all_nodes, plan_of
-from shellways.situations import Situations
+from shellways.rows import row_to
 from shellways.trees import changed_program, with_tree_at
 
 MOST_LIVE = 60
@@ -144,36 +144,24 @@ def matters(pairs, number, place, name):
 def needless_sets(program):
     """Returns the paths of all trees keep and put that may be left out, each alone."""
     plan = plan_of(program)
-    every = situations_of_small(plan)
+    every = situations_of_small(plan, MOST_TREES)
     paths = paths_of_sets(plan)
-    return [path for path in paths if is_alike(every, with_tree_at(program, path, LEFT_OUT))]
+    return [path for path in paths if is_alike(every, plan_of(with_tree_at(program, path, LEFT_OUT)))]
 
 
 def without_sets(program):
     """Returns the program in which trees keep and put are left out, from the last one on."""
     plan = plan_of(program)
-    every = situations_of_small(plan)
+    every = situations_of_small(plan, MOST_TREES)
     for path in reversed(paths_of_sets(plan)):
         changed = with_tree_at(program, path, LEFT_OUT)
-        if is_alike(every, changed):
+        if is_alike(every, plan_of(changed)):
             program = changed
     return program
 
 
-def situations_of_small(plan):
-    if plan.check.trees > MOST_TREES:
-        raise TooLarge(MOST_TREES)
-    return all_situations(plan, False)
-
-
 def paths_of_sets(plan):
     return [node.path for node in all_nodes(plan) if node.word in ("keep", "put")]
-
-
-def is_alike(every, program):
-    """Returns whether the program is alike to the one with these situations."""
-    pairs = Pairs(every, Situations(plan_of(program), False), (), None)
-    return pairs.parting_row(START) is None
 
 
 def fewest_variables(program):
@@ -181,9 +169,10 @@ def fewest_variables(program):
     plan = plan_of(program)
     if len(plan.variables) > MOST_VARIABLES:
         raise TooLarge(MOST_VARIABLES)
-    every = situations_of_small(plan)
+    every = situations_of_small(plan, MOST_TREES)
     for names in merged_names(plan.variables):
-        if is_alike(every, changed_program(program, lambda tree: with_variable(tree, names))):
+        merged = changed_program(program, lambda tree: with_variable(tree, names))
+        if is_alike(every, plan_of(merged)):
             return names
 
 

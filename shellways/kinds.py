@@ -2,6 +2,8 @@
 
 LONGEST_NAME = 12
 
+LETTERS = "abcdefghijklmnopqrstuvwxyz"
+
 # The words that are no names.
 RESERVED = {
     "def": True, "call": True, "status": True, "give": True, "zero": True, "keep": True,
@@ -29,3 +31,9 @@ def is_name(value):
     if not isinstance(value, str) or len(value) > LONGEST_NAME:
         return False
     return value.isascii() and value.isalpha() and value.islower() and value not in RESERVED
+
+
+def new_names(taken, many):
+    """Returns so many names, a few hundred at most, that are none of those taken."""
+    candidates = list(LETTERS) + [first + second for first in LETTERS for second in LETTERS]
+    return [name for name in candidates if is_name(name) and name not in taken][:many]

@@ -4,7 +4,7 @@ from shellways.errors import InvalidMachine, InvalidRow, TooLarge
 from shellways.kinds import is_integer
 from shellways.plans import plan_of
 from shellways.rows import check_row
-from shellways.situations import Situations
+from shellways.situations import situations_of
 
 MOST_SITUATIONS = 1000
 
@@ -49,7 +49,7 @@ def check_machine(program, rows):
 
 def all_situations(plan, noting, most=MOST_SITUATIONS):
     """Returns the situations of a program with all their steps; raises TooLarge if there are more."""
-    every = Situations(plan, noting)
+    every = situations_of(plan, noting)
     number = 0
     while number < len(every.found):
         if every.found[number].walk.asking is not None:
@@ -58,6 +58,13 @@ def all_situations(plan, noting, most=MOST_SITUATIONS):
             raise TooLarge(most)
         number += 1
     return every
+
+
+def situations_of_small(plan, most):
+    """Returns the situations of a program with at most so many trees; raises TooLarge if it has more."""
+    if plan.check.trees > most:
+        raise TooLarge(most)
+    return all_situations(plan, False)
 
 
 def entries_of(every):

@@ -5,8 +5,12 @@ tuple of the pairs (slot of i, slot of j) that hold the same told failure.
 """
 
 from shellways.errors import TooLarge
+from shellways.rows import row_to
+from shellways.situations import situations_of
 
 START = (0, 0, ())
+
+MOST_PAIRS = 2000
 
 # Numbers of programs are at most 255, so failures from here on equal none of them.
 FIRST_FAILURE = 256
@@ -147,14 +151,10 @@ class Pairs:
         return None
 
 
-def row_to(befores, pair):
-    """Returns the row of 0 and 1 on which a pair was found."""
-    row = []
-    while befores[pair] is not None:
-        pair, status = befores[pair]
-        row.append(status)
-    row.reverse()
-    return row
+def is_alike(every, plan):
+    """Returns whether the program of a plan is alike to the one with these situations."""
+    pairs = Pairs(every, situations_of(plan, False), (), None)
+    return pairs.parting_row(START) is None
 
 
 def told_row(row):

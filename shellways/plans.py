@@ -13,8 +13,12 @@ LOOPS = ("while", "until", "times")
 # The trees whose parts are each in a new shell.
 STARTERS = ("sub", "pipe")
 
+# The trees behind which there is a check.
+CHECKED = ("run", "status", "give", "zero", "call", "sub", "pipe")
+
 # The trees whose first part is tested.
 CAUSES = ("and", "or", "not", "if", "while", "until", "trap")
+
 
 class Node:
     """One tree of a program, at its path."""

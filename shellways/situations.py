@@ -27,16 +27,15 @@ class Situation:
 
 
 class Situations:
-    """The situations of a program that were found so far, the start first."""
+    """The situations that a walk can come to, as far as they were found, the first one first."""
 
-    def __init__(self, plan, noting):
+    def __init__(self, walk, noting):
         self.found = []
         self.numbers = {}
         self.noting = noting
         # What was noted on a walk, and the step on which it came first: the
         # number of a situation and a status, or None before the first status.
         self.firsts = {}
-        walk = walk_of(plan)
         walk.notes = {} if noting else None
         go_on(walk)
         self.keep_notes(walk, None)
@@ -92,6 +91,11 @@ class Situations:
             for key in walk.notes:
                 if key not in self.firsts:
                     self.firsts[key] = step
+
+
+def situations_of(plan, noting):
+    """Returns the situations of a program from its start on."""
+    return Situations(walk_of(plan), noting)
 
 
 def held_statuses(walk):

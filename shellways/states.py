@@ -103,11 +103,13 @@ class Walk:
             self.notes[(path, word)] = True
 
     def copied(self):
-        """Returns an equal walk that asks for a command, too, without its notes."""
+        """Returns an equal walk that does not go on, without its notes."""
         walk = Walk(self.bodies)
         walk.shells = [shell.copied() for shell in self.shells]
         walk.tested = self.tested
         walk.asking = self.asking
+        walk.status = self.status
+        walk.silent = self.silent
         walk.going = False
         return walk
 

@@ -2,16 +2,13 @@
 
 from shellways.checks import checked
 from shellways.errors import InvalidProgram, Mismatch, TooLarge
+from shellways.kinds import new_names
 from shellways.machines import all_situations
-from shellways.plans import CAUSES, all_nodes, nodes_of_shell, nodes_within, plan_of
+from shellways.plans import CAUSES, CHECKED, all_nodes, nodes_of_shell, nodes_within, plan_of
 from shellways.situations import row_behind
 from shellways.trees import parts_of, with_parts
 
 MOST_TREES = 3000
-LETTERS = "abcdefghijklmnopqrstuvwxyz"
-
-# The trees behind which there is a check.
-CHECKED = ("run", "status", "give", "zero", "call", "sub", "pipe")
 
 # The trees whose parts are in another shell, or in the body of a trap.
 BARRIERS = ("sub", "pipe", "trap")
@@ -50,7 +47,7 @@ def spelled_fail(program):
     for node in all_nodes(plan):
         if node.tree == ("option", "fail", True) or (node.path[0] != -1 and node.tree == ("exit", None)):
             raise Mismatch("program")
-    name = new_name(plan.check.variables)
+    name = new_names(plan.check.variables, 1)[0]
     behind = (("keep", name), ("or", ("zero", name), tested_body(body, name)), ("give", name))
     functions, main = program
     parts = [spelled_out(part, behind) for part in main[1][1:]]
@@ -71,7 +68,7 @@ def spelled_end(program):
         raise Mismatch("program")
     if any([node.word == "trap" for node in nodes_of_shell(inside)]):
         raise Mismatch("program")
-    name = new_name(plan.check.variables)
+    name = new_names(plan.check.variables, 1)[0]
     functions, main = program
     rest = ("sub", ("seq", (("status", 0), *main[1][1:])))
     return small_enough((functions, ("seq", (rest, ("keep", name), tested_body(body, name), ("give", name)))))
@@ -91,12 +88,6 @@ def trap_body(plan, kind):
     if traps > 1:
         raise Mismatch("program")
     return first[2]
-
-
-def new_name(names):
-    """Returns a name that is none of these, of which there are at most 40."""
-    candidates = list(LETTERS) + ["a" + letter for letter in LETTERS]
-    return [name for name in candidates if name not in names][0]
 
 
 def tested_body(body, name):

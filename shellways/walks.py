@@ -29,6 +29,13 @@ def tell(walk, status):
     go_on(walk)
 
 
+def walk_behind(walk, status):
+    """Returns the walk behind a status of the command that another one asks for."""
+    later = walk.copied()
+    tell(later, status)
+    return later
+
+
 def go_on(walk):
     while walk.going:
         node = walk.coming
