@@ -16,11 +16,13 @@ NOTHING = ("status", 0)
 class Inlining:
     """The ways in which the trees of a program are written without functions."""
 
-    def __init__(self, result, option):
+    def __init__(self, result, option, checking):
         # The new variable for the status of a function.
         self.result = result
         # The variable that holds the option "fail", None if the option itself does.
         self.option = option
+        # Whether checks are spelled out.
+        self.checking = checking
         # What stands in the place of the calls of each function: checked, and tested.
         self.calls = {}
 
@@ -62,7 +64,7 @@ class Inlining:
 
     def with_check(self, tree, tested):
         """Returns the tree with its check spelled out behind it."""
-        if self.option is None or tested or tree[0] not in CHECKED or tree == NOTHING:
+        if not self.checking or tested or tree[0] not in CHECKED or tree == NOTHING:
             return tree
         return ("or", tree, self.check_behind(tree))
 

@@ -22,14 +22,15 @@ def without_functions(program):
     """Returns an alike program without functions, calls and returns."""
     plan = plan_without_fail_traps(program)
     names = new_names(plan.check.variables, 1)
-    return inlined_program(program, Inlining(names[0], None))
+    return inlined_program(program, Inlining(names[0], None, False))
 
 
 def without_fail(program):
     """Returns an alike program without functions, calls and returns, and without the option "fail"."""
     plan = plan_without_fail_traps(program)
     names = new_names(plan.check.variables, 2)
-    return inlined_program(program, Inlining(names[0], names[1]))
+    can_be_on = any([node.tree == ("option", "fail", True) for node in all_nodes(plan)])
+    return inlined_program(program, Inlining(names[0], names[1], can_be_on))
 
 
 def plan_without_fail_traps(program):
