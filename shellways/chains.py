@@ -76,8 +76,9 @@ def settle(chain, members, flow, weights):
             if after in members:
                 sources = equations[after][2]
                 sources[number] = sources.get(number, 0) + weight
-    for number, value in solved(equations).items():
-        flow[number] = scaled(value, chain.wholes[number], 1)
+    often = solved(equations)
+    for number in members:
+        flow[number] = scaled(often[number], chain.wholes[number], 1)
 
 
 def chances_of(chain, goals):
@@ -88,8 +89,9 @@ def chances_of(chain, goals):
     for members in reversed(chain.groups):
         if is_round(chain.graph, members):
             if not chain.is_endless(members):
-                for number, value in solved(equations_of(chain, members, worth)).items():
-                    worth[number] = value
+                values_inside = solved(equations_of(chain, members, worth))
+                for number in members:
+                    worth[number] = values_inside[number]
         elif chain.graph[members[0]]:
             worth[members[0]] = mean_behind(chain, members[0], worth, ())
     return worth

@@ -101,8 +101,9 @@ def value_round(game, asking):
             if after in live:
                 weights[after] = weights.get(after, 0) + weight
         equations[number] = (whole, scaled(game.mean(number, game.picks[number]), whole, 1), weights)
-    for number, value in solved(equations).items():
-        game.worth[number] = value
+    found = solved(equations)
+    for number in live:
+        game.worth[number] = found[number]
 
 
 def leading_out(game, inside):
@@ -124,7 +125,7 @@ def ranks_of(game):
     growing = True
     while growing:
         growing = False
-        for number in reversed(range(len(ranks))):
+        for number in reversed(range(len(game.graph))):
             if ranks[number] is None and game.graph[number]:
                 ranks[number] = rank_by(game, number, ranks)
                 growing = growing or ranks[number] is not None

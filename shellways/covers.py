@@ -81,7 +81,7 @@ def row_through(graph, items):
             if not starts[number]:
                 more, number = way_that_takes(graph, number, starts, left)
                 row.extend(more)
-            step = [step for step in left if step[0] == number][0]
+            step = [other for other in left if other[0] == number][0]
             del left[step]
             row.append(step[1])
             number = end_of(graph, step)

@@ -80,10 +80,7 @@ def classes_of(marks, following):
     `following` tells for each state what follows behind the three letters, () if nothing does;
     something follows behind both of two states with the same mark, or behind neither.
     """
-    befores = [[[] for _ in marks] for _ in LETTERS]
-    for state, after in enumerate(following):
-        for letter, other in enumerate(after):
-            befores[letter][other].append(state)
+    befores = [befores_by(following, letter) for letter in LETTERS]
     classes, blocks = classes_by(marks)
     coming = [(block, letter) for block in range(len(blocks)) for letter in LETTERS]
     waiting = {key: True for key in coming}
@@ -100,6 +97,15 @@ def classes_of(marks, following):
                 split(classes, blocks, other, members)
                 coming.extend(keys_behind_split(waiting, blocks, other))
     return classes
+
+
+def befores_by(following, letter):
+    """Returns for each state the list of those behind which it follows with a letter."""
+    befores = [[] for _ in following]
+    for state, after in enumerate(following):
+        if after:
+            befores[after[letter]].append(state)
+    return befores
 
 
 def keys_behind_split(waiting, blocks, other):

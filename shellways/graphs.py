@@ -34,7 +34,8 @@ def reached(graph, starts):
             found[start] = True
             coming.append(start)
     while coming:
-        for after in graph[coming.pop()]:
+        number = coming.pop()
+        for after in graph[number]:
             if not found[after]:
                 found[after] = True
                 coming.append(after)

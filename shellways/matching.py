@@ -26,7 +26,8 @@ def apart_items(orders):
     could_be_free = {item: True for item in free}
     taken = {}
     while free:
-        for other in orders[free.pop()]:
+        item = free.pop()
+        for other in orders[item]:
             if other not in taken:
                 taken[other] = True
                 if leaders[other] not in could_be_free:

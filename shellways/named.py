@@ -6,7 +6,7 @@ from shellways.machines import MOST_SITUATIONS
 from shellways.ratios import is_part
 
 MOST_TOGETHER = 40
-GREATEST_BOTTOM = 10 ** 6
+GREATEST_BOTTOM = 1000000
 
 
 class Named:
