@@ -41,17 +41,15 @@ class Flattening:
         if not self.lasting:
             return ("while", ("status", 0), ("exit", self.every.found[0].walk.status))
         trees = [self.tree_of(number) for number in self.lasting]
-        return ("while", ("status", 0), self.chosen(trees, len(self.bits) - 1))
+        return ("while", ("status", 0), self.chosen(trees))
 
-    def chosen(self, trees, bit):
-        """Returns a tree that carries out that of these trees whose place the bits up to this one hold."""
+    def chosen(self, trees):
+        """Returns a tree that carries out that of these trees whose place the lowest bits hold."""
         if len(trees) == 1:
             return trees[0]
+        bit = (len(trees) - 1).bit_length() - 1
         half = 1 << bit
-        if len(trees) <= half:
-            return self.chosen(trees, bit - 1)
-        low = self.chosen(trees[:half], bit - 1)
-        return ("if", ("zero", self.bits[bit]), low, self.chosen(trees[half:], bit - 1))
+        return ("if", ("zero", self.bits[bit]), self.chosen(trees[:half]), self.chosen(trees[half:]))
 
     def tree_of(self, number):
         """Returns what is carried out in a situation."""

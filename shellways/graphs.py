@@ -110,11 +110,11 @@ def flags(graph, numbers):
 
 
 def way(graph, start, goals):
-    """Returns the least row of one or more steps to a goal, and this goal; None if there is none."""
+    """Returns the least row of one or more steps to a goal, and this goal; there is a way to one."""
     befores = {start: None}
     coming = [start]
     at = 0
-    while at < len(coming):
+    while True:
         number = coming[at]
         at += 1
         for status, after in enumerate(graph[number]):
@@ -123,7 +123,6 @@ def way(graph, start, goals):
             if after not in befores:
                 befores[after] = (number, status)
                 coming.append(after)
-    return None
 
 
 def way_with_fewest_failures(graph, goals):

@@ -310,6 +310,11 @@ class Papers(unittest.TestCase):
             self.assertIs(shows_at_least(program, ranges, "badly", (0, 1), paper), False)
         for worth in ((2, 4), (0, 2), (True, 1), (1, True), (1, 0), (1, -1), (-1, 2), [1, 2], ((1, 1), 1), ("1", 2), (1j, 1), None):
             self.assertIs(shows_at_most(program, ranges, "ends", (1, 1), [worth, (1, 1), (1, 1)]), False)
+        for place in range(3):
+            for worth in ((0, -1), (1, 0), (-1, -1), (1, -1), (-1, -2), (2, 2), (0, 0), (3, 0)):
+                self.assertIs(shows_at_most(program, ranges, "badly", (1, 1), upper[:place] + [worth] + upper[place + 1:]), False)
+                line = (worth, lower[place][1])
+                self.assertIs(shows_at_least(program, ranges, "badly", (0, 1), lower[:place] + [line] + lower[place + 1:]), False)
         for line in (((0, 2), 0), ((0, 1), -1), ((0, 1), True), ((0, 1), None), ((0, 1), 0, 0), ((0, 1),), [(0, 1), 0], ((False, 1), 0)):
             self.assertIs(shows_at_least(program, ranges, "ends", (0, 1), [line, ((0, 1), 0), ((0, 1), 0)]), False)
 

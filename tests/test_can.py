@@ -288,6 +288,29 @@ class Deaf(unittest.TestCase):
                 ("if a then while status 0 do status 0 end else while status 0 do zero x end end", [0])):
             self.assertEqual(deaf(read_program(text)), expected, text)
 
+    def test_which_of_several_failures_is_told(self):
+        """Both branches end with failures behind the same rows, but with others of them."""
+        start = "b ; keep x ; c ; keep y ; "
+        for text, is_deaf in (
+                ("if a then b ; keep x ; c ; keep y ; if zero x then give y else give x end "
+                 "else b ; keep x ; c ; keep y ; if zero y then give x else give y end end", False),
+                ("if a then b ; keep x ; c ; keep y ; if zero x then give y else give x end "
+                 "else b ; keep y ; c ; keep x ; if zero y then give x else give y end end", True)):
+            self.assertEqual(0 in deaf(read_program(text)), is_deaf)
+        for one, other, is_deaf in (
+                ("give x", "give y", False), ("give x", "give x", True), ("give y", "status 7", False), ("zero x", "zero y", True),
+                ("if d then exit 0 else give x end", "if d then exit 0 else give y end", False),
+                ("if d then give x else exit 0 end", "if d then give y else exit 0 end", False),
+                ("if d then give x else give y end", "if d then give x else give y end", True),
+                ("if d then give x else give y end", "if d then give y else give x end", False),
+                ("keep x ; d ; give y", "keep x ; d ; give y", True), ("keep x ; d ; give x", "keep z ; d ; give z", False),
+                ("d ; keep z ; if e then give x else give z end", "d ; keep y ; if e then give x else give y end", True),
+                ("d ; keep z ; if e then give x else give z end", "d ; keep x ; if e then give x else give z end", False)):
+            program = read_program(start + f"if a then {one} else {other} end")
+            last = [number for number, entry in enumerate(machine(program)) if entry[0] == "ask" and entry[2:4] == ("a", 2)]
+            self.assertEqual([number in deaf(program) for number in last], [is_deaf], (one, other))
+            self.assertEqual(deaf(program), self.followed(program))
+
     def test_samples(self):
         for program in small_samples(range(300), most=80):
             found = deaf(program)

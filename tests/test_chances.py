@@ -149,6 +149,15 @@ class Outcomes(unittest.TestCase):
         self.assertEqual(mean_asked(program, chances), {"a": (1, 1), "b": (0, 1), "c": (0, 1)})
         self.assertEqual(failed_before(program, chances, ("ended", 0)), {"a": (1, 2), "b": (0, 1), "c": (0, 1)})
 
+    def test_commands_with_names_of_outcomes(self):
+        program = read_program("silent || ended || asks ; failed && endless")
+        chances = {name: (1, 2) for name in ("silent", "ended", "asks", "failed", "endless")}
+        self.assertEqual(outcome_chances(program, chances),
+                         {("ended", 0): (1, 4), ("failed", "failed"): (1, 2), ("failed", "endless"): (1, 4)})
+        self.assertEqual(chance_within(read_program("silent"), chances, 1), (1, 1))
+        self.assertEqual(rows_counted(read_program("silent && asks"), 1), {("failed", "silent"): 1, ("asks",): 1})
+        self.assertEqual(failed_before(read_program("asks"), chances, ("failed", "asks")), {"asks": (1, 1)})
+
     def test_sum_is_1(self):
         for text in ("until a do b && exit 3 ; c end", "while a do until b do c || exit 7 end end", "a | b | c",
                      "option pipes on ; a | b | c", "trap end { a } ; b && c"):

@@ -130,7 +130,7 @@ class Covers(unittest.TestCase):
                       [(0, 0)], [(1, False), (1, False)], [(0, True), None]):
             self.assertIs(are_apart(AND, steps), False)
         for steps, good in (([(0, True)], True), ([(1, True), (0, True)], True), ([(1, True), (0, False)], False), ([], True),
-                            ([(1, True), (1, False)], True)):
+                            ([(1, True), (1, False)], True), ([(4, True)], False), ([(3, True)], False), ([(2, False)], False)):
             self.assertIs(are_apart(AND, steps), good)
             self.assertIs(parted(nexts_of(AND), steps), good)
 
@@ -140,6 +140,10 @@ class Covers(unittest.TestCase):
         for one, other in itertools.product(steps_of(nexts), repeat=2):
             self.assertIs(are_apart(loop, [one, other]), parted(nexts, [one, other]))
         self.assertIs(are_apart(loop, [(0, True)]), True)
+        # The last situation asks, too.
+        loop = read_program("while status 0 do a ; keep x ; b end")
+        last = len(machine(loop)) - 1
+        self.assertEqual([are_apart(loop, [(number, True)]) for number in (last, -1, last + 1)], [True, False, False])
 
     def test_limits(self):
         program = read_program("times 50 do a ; b end")

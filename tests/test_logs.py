@@ -220,6 +220,12 @@ class Logs(unittest.TestCase):
         self.assertEqual(explained(main(status(0)), [], ("ended", 0)), [])
         self.assertEqual(explained(main(status(0)), (), ("asks",)), None)
 
+    def test_kept_lines_are_those_of_the_log(self):
+        program = read_program("if c then a else b end")
+        self.assertIs(explains(program, [("a", 0)], None, [("c", 0, False), ("a", 0, True)]), True)
+        self.assertIs(explains(program, [("a", 0)], None, [("c", 1, False), ("b", 0, True)]), False)
+        self.assertIs(explains(program, [("b", None)], None, [("c", 1, False), ("b", 0, True)]), True)
+
     def test_two_hundred_lines(self):
         log = [("a", None), ("b", 0)] * 100
         program = read_program("until ! a do b end")
@@ -265,7 +271,7 @@ class Errors(unittest.TestCase):
                 assert_error(self, InvalidLog, 2, function, AND, (good, good, line), 3, *more)
             for outcome in (3, True, "asks", (), ("asks", 1), ("ended",), ("ended", 0, 1), ("ended", -1), ("ended", True), ("ended", "0"),
                             ["asks"], ["ended", 0], ("silent",), ("Asks",), {}, object(), ("ended", [0]), (["asks"],), (None,), Live(AND),
-                            ("asks", None), ("ended", 1j), {"asks"}, b"asks"):
+                            ("asks", None), ("ended", 1j), {"asks"}, b"asks", ("silent", 0), ("failed", None), ("asks", "asks")):
                 assert_error(self, Mismatch, "outcome", function, LARGE, [good], outcome, *more)
                 assert_error(self, Mismatch, "outcome", function, AND, [], outcome, *more)
             assert_error(self, TooLarge, 1000, function, LARGE, [], None, *more)

@@ -247,7 +247,10 @@ class Flat(Rewriting):
         program = main(A, ("keep", "x"), ("or", ("zero", "x"), seq(B, ("keep", "y"), C, ("keep", "w"), ("until", Z, turn), ("give", "x"))))
         self.check_flat(program)
         told = seq(("keep", "x"), ("give", "y"), ("keep", "z"), ("give", "x"), ("keep", "y"), ("give", "z"), ("keep", "x"), ("put", "z", 0))
-        self.check_flat(main(A, ("keep", "y"), ("until", ("not", B), told), ("give", "x")))
+        # The failure that is told now takes the place of one that moves on.
+        for last in "xy":
+            self.check_flat(main(A, ("keep", "y"), ("until", B, told), ("give", last)))
+            self.check_flat(main(A, ("keep", "y"), ("until", ("not", B), told), ("give", last)))
         self.check_flat(main(A, ("keep", "y"), ("while", ("seq", (B, ("keep", "w"), ("zero", "w"))), status(0)), ("give", "y"), PIPES_ON,
                              pipe(("give", "w"), C)))
 
