@@ -315,6 +315,12 @@ class Papers(unittest.TestCase):
                 self.assertIs(shows_at_most(program, ranges, "badly", (1, 1), upper[:place] + [worth] + upper[place + 1:]), False)
                 line = (worth, lower[place][1])
                 self.assertIs(shows_at_least(program, ranges, "badly", (0, 1), lower[:place] + [line] + lower[place + 1:]), False)
+        # Also where no chance leads.
+        sure = {"a": ((1, 1), (1, 1))}
+        for worth, good in (((0, 1), True), ((9, 1), True), ((1, 0), False), ((0, -1), False), ((5, -1), False), ((2, 2), False)):
+            self.assertIs(shows_at_most(program, sure, "badly", (1, 1), [(1, 1), worth, (1, 1)]), good)
+        for worth, good in (((0, 1), True), ((-9, 1), True), ((-1, 0), False), ((0, -1), False), ((5, -1), False), ((-2, 2), False)):
+            self.assertIs(shows_at_least(program, sure, "badly", (1, 1), [((1, 1), 1), (worth, 0), ((1, 1), 0)]), good)
         for line in (((0, 2), 0), ((0, 1), -1), ((0, 1), True), ((0, 1), None), ((0, 1), 0, 0), ((0, 1),), [(0, 1), 0], ((False, 1), 0)):
             self.assertIs(shows_at_least(program, ranges, "ends", (0, 1), [line, ((0, 1), 0), ((0, 1), 0)]), False)
 
