@@ -3,7 +3,7 @@
 from shellways.choices import HIGH, Game, play, ranks_of
 from shellways.errors import InvalidName, InvalidNumber
 from shellways.graphs import graph_of
-from shellways.kinds import is_integer
+from shellways.kinds import is_integer, is_list_of
 from shellways.machines import all_situations
 from shellways.named import check_chances, check_together, is_chance
 from shellways.plans import plan_of
@@ -64,11 +64,6 @@ def is_goal_status(status, goal):
     return goal == "ends" or (status == 0) == (goal == "well")
 
 
-def check_bound(bound):
-    if not is_part(bound):
-        raise InvalidNumber("bound")
-
-
 def worst_choices(program, ranges, goal):
     """Returns "low" or "high" for each situation that asks, with which the goal has its greatest chance."""
     game = played(program, ranges, goal, True)
@@ -91,12 +86,8 @@ def upper_paper(program, ranges, goal):
 
 def shows_at_most(program, ranges, goal, bound, paper):
     """Returns whether the paper shows that the chance of the goal is at most the bound."""
-    plan = checked_plan(program, ranges, goal)
-    check_bound(bound)
-    game = game_of(plan, ranges, goal)
-    if not isinstance(paper, list) or len(paper) != len(game.graph):
-        return False
-    if not all([is_fraction(worth) and worth[0] >= 0 for worth in paper]):
+    game = game_for_bound(program, ranges, goal, bound)
+    if not is_list_of(paper, len(game.graph), is_worth):
         return False
     for number, worth in enumerate(paper):
         if game.goals[number] and is_less(worth, ONE):
@@ -104,6 +95,19 @@ def shows_at_most(program, ranges, goal, bound, paper):
         if any([is_less(worth, mean) for mean in means_behind(game, number, paper)]):
             return False
     return not is_less(bound, paper[0])
+
+
+def game_for_bound(program, ranges, goal, bound):
+    """Returns the game if all arguments ahead of a paper are as described."""
+    plan = checked_plan(program, ranges, goal)
+    if not is_part(bound):
+        raise InvalidNumber("bound")
+    return game_of(plan, ranges, goal)
+
+
+def is_worth(value):
+    """Returns whether the value is a fraction that is not below 0."""
+    return is_fraction(value) and value[0] >= 0
 
 
 def means_behind(game, number, worth):
@@ -128,12 +132,8 @@ def lower_paper(program, ranges, goal):
 
 def shows_at_least(program, ranges, goal, bound, paper):
     """Returns whether the paper shows that the chance of the goal is at least the bound."""
-    plan = checked_plan(program, ranges, goal)
-    check_bound(bound)
-    game = game_of(plan, ranges, goal)
-    if not isinstance(paper, list) or len(paper) != len(game.graph):
-        return False
-    if not all([is_line(line) for line in paper]):
+    game = game_for_bound(program, ranges, goal, bound)
+    if not is_list_of(paper, len(game.graph), is_line):
         return False
     worth = [line[0] for line in paper]
     ranks = [line[1] for line in paper]

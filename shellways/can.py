@@ -6,7 +6,7 @@ from shellways.graphs import (
     components, flags, graph_of, is_round, numbers_in_rounds, reached, round_of_zeros, turned, way,
     way_with_fewest_failures,
 )
-from shellways.kinds import is_name, is_status
+from shellways.kinds import is_list_of, is_name, is_status
 from shellways.machines import all_situations
 from shellways.plans import plan_of
 from shellways.rows import check_row, row_to
@@ -128,9 +128,7 @@ def shows_surely(program, name, thing):
     """Returns whether the thing is a list that shows that every run asks for the command."""
     every = situations_for_name(program, name)
     graph = graph_without(every, name)
-    if not isinstance(thing, list) or len(thing) != len(graph):
-        return False
-    if not all([is_status(value) for value in thing]):
+    if not is_list_of(thing, len(graph), is_status):
         return False
     found = reached(graph, [0])
     for number, situation in enumerate(every.found):

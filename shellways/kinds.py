@@ -26,6 +26,13 @@ def is_status(value):
     return isinstance(value, int) and not isinstance(value, bool) and value >= 0
 
 
+def is_list_of(value, many, is_entry):
+    """Returns whether the value is a list of so many entries that are as asked for."""
+    if not isinstance(value, list) or len(value) != many:
+        return False
+    return all([is_entry(entry) for entry in value])
+
+
 def is_name(value):
     # The length comes first, so that a long string is not read to its end.
     if not isinstance(value, str) or len(value) > LONGEST_NAME:

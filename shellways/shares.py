@@ -6,7 +6,7 @@ from shellways.errors import InvalidNumber
 from shellways.graphs import (
     components, flags, graph_of, is_round, round_of_zeros, way, way_with_fewest_failures,
 )
-from shellways.kinds import is_integer
+from shellways.kinds import is_integer, is_list_of
 from shellways.machines import all_situations
 from shellways.plans import plan_of
 from shellways.situations import row_behind
@@ -131,9 +131,7 @@ def shows_share(program, top, bottom, thing):
     if not is_integer(bottom) or bottom < 1:
         raise InvalidNumber("bottom")
     graph = graph_of(all_situations(plan, False))
-    if not isinstance(thing, list) or len(thing) != len(graph):
-        return False
-    if not all([is_integer(value) for value in thing]):
+    if not is_list_of(thing, len(graph), is_integer):
         return False
     for number, following in enumerate(graph):
         for status, after in enumerate(following):
