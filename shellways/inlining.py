@@ -28,10 +28,15 @@ class Inlining:
 
     def add_function(self, name, body):
         """Notes what stands in the place of the calls of a function; those that it calls are known."""
+        keep = ("keep", self.result)
         for tested in (False, True):
-            parts = parts_and(self.inlined(body, 0, tested), ("keep", self.result))
+            inside = self.inlined(body, 0, tested)
             if has_return(body):
-                parts = (("times", 1, ("seq", parts)),)
+                parts = (("times", 1, ("seq", parts_and(inside, keep))),)
+            else:
+                # The body stays a tree of its own: if fewer trees were begun than by
+                # the call, the result would not be silent wherever the program is.
+                parts = (inside, keep)
             give = self.with_check(("give", self.result), tested)
             self.calls[(name, tested)] = ("seq", (*parts, give))
 

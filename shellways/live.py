@@ -73,16 +73,21 @@ class Live:
         return isinstance(other, Live) and self.program == other.program and self.row == other.row
 
     def __str__(self):
-        words = []
-        for walk, status in zip(self.walks, self.row):
-            if has_too_many_digits(status):
-                raise TooLarge(MOST_DIGITS)
-            words.append(walk.asking.tree[1] + ":" + str(status))
-        outcome = self.outcome()
-        words.append(outcome[0])
-        if outcome[0] != "silent":
-            words.append(str(outcome[1]))
-        return " ".join(words)
+        return " ".join(words_of(self))
+
+
+def words_of(live):
+    """Returns the words of the text of a Live."""
+    words = []
+    for walk, status in zip(live.walks, live.row):
+        if has_too_many_digits(status):
+            raise TooLarge(MOST_DIGITS)
+        words.append(walk.asking.tree[1] + ":" + str(status))
+    outcome = live.outcome()
+    words.append(outcome[0])
+    if outcome[0] != "silent":
+        words.append(str(outcome[1]))
+    return words
 
 
 def has_too_many_digits(status):

@@ -139,6 +139,56 @@ class WithoutFunctions(Rewriting):
                     self.assertEqual(run(without_functions(program), row), run(program, row))
                     self.assertEqual(run(without_fail(program), row), run(program, row))
 
+    def test_silent_wherever_the_program_is(self):
+        """The results begin no fewer trees than the program, whatever stands ahead of a command."""
+        body = seq(A, B)
+        program = ((("g", body),), seq(("times", 996, status(0)), ("call", "g")))
+        self.assertEqual(run(program, []), ([], ("silent", 0)))
+        self.assertEqual(run(((("g", body),), seq(("times", 995, status(0)), ("call", "g"))), []), ([], ("asks", "a")))
+        for function in (without_functions, without_fail):
+            self.assertEqual(run(function(program), []), ([], ("silent", 0)))
+        tried = 0
+        for sample, _ in sampled(range(300), (4, 8, 12, 20)):
+            program = without_fail_traps(sample)
+            rounds = self.first_silent(program)
+            if rounds is not None:
+                tried += 1
+                for changed in self.with_rounds(program, rounds):
+                    for row in ([], [0], [7]):
+                        expected = run(changed, row)
+                        if expected[1][0] == "silent":
+                            self.assertEqual(run(without_functions(changed), row), expected, changed)
+                            self.assertEqual(run(without_fail(changed), row), expected, changed)
+        self.assertGreater(tried, 100)
+
+    def with_rounds(self, program, rounds):
+        """The program with so many rounds ahead of main, and ahead of the bodies of its functions."""
+        functions, tree = program
+        ahead = ("times", rounds, status(0))
+        yield functions, seq(ahead, tree)
+        if functions and ("call", functions[-1][0]) in trees_in(program):
+            changed = functions[:-1] + ((functions[-1][0], seq(ahead, functions[-1][1])),), tree
+            try:
+                check_program(changed)
+            except InvalidProgram:
+                # The function is called several times.
+                return
+            yield changed
+
+    def first_silent(self, program):
+        """The least number of rounds ahead of main with which it is silent, if it asks without them."""
+        functions, tree = program
+        if run(program, [])[1][0] != "asks":
+            return None
+        low, high = 0, 1000
+        while high - low > 1:
+            middle = (low + high) // 2
+            if run((functions, seq(("times", middle, status(0)), tree)), [])[1][0] == "silent":
+                high = middle
+            else:
+                low = middle
+        return high
+
     def test_fifty_trees(self):
         for count in (46, 47, 48):
             for part in (("run", "a"), ("or", status(1), status(0))):
