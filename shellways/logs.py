@@ -4,7 +4,7 @@ from shellways.errors import InvalidLog, Mismatch
 from shellways.kinds import is_name, is_status
 from shellways.machines import all_situations
 from shellways.plans import plan_of
-from shellways.readings import Reading, layers_of, marked_lines, read_back, replayed
+from shellways.readings import Reading, layers_of, marked_lines, read_back, replayed, ways_through
 
 LONGEST_LOG = 200
 
@@ -121,9 +121,7 @@ def explanations(program, log, outcome):
     every = situations_for_log(program, log, outcome)
     reading = Reading(every, log, outcome)
     layers = layers_of(reading)
-    if layers is None:
-        return 0
-    return sum([many for state, many in layers[-1].items() if reading.is_over(state)])
+    return 0 if layers is None else ways_through(reading, layers)
 
 
 def sure(program, log, outcome):
@@ -137,4 +135,4 @@ def sure(program, log, outcome):
     if layers is None:
         return None
     words = {(True, False): "well", (False, True): "failed", (True, True): "open"}
-    return [words[well, failed] for well, failed in marked_lines(reading, layers)]
+    return [words[(well, failed)] for well, failed in marked_lines(reading, layers)]

@@ -82,27 +82,41 @@ class Reading:
 def layers_of(reading):
     """Returns the layers of a reading, up to the first one in which it can be over; None if it never can.
 
-    Each layer is one line of the run further. It is a dict from the states that are
-    come to first there to the numbers of ways to come to them. As each line is either
-    read from the log or lost, these are the ways with the fewest lost lines.
+    Each layer is one line of the run further. It is a dict of True from the states that
+    are come to first there. As each line is either read from the log or lost, the ways
+    from layer to layer are those with the fewest lost lines.
     """
     start = reading.start()
     seen = {start: True}
-    layers = [{start: 1}]
+    layers = [{start: True}]
     while layers[-1]:
         layer = layers[-1]
         if any([reading.is_over(state) for state in layer]):
             return layers
         later = {}
-        for state, many in layer.items():
+        for state in layer:
             for after, _, _, _ in reading.moves(state):
-                if after in later:
-                    later[after] += many
-                elif after not in seen:
+                if after not in seen:
                     seen[after] = True
-                    later[after] = many
+                    later[after] = True
         layers.append(later)
     return None
+
+
+def ways_through(reading, layers):
+    """Returns the number of ways from layer to layer to those states of the last one in which it is over.
+
+    Only the numbers for one layer are kept: they may have as many digits as a run has lines.
+    """
+    ways = {reading.start(): 1}
+    for layer in layers[1:]:
+        later = {}
+        for state, many in ways.items():
+            for after, _, _, _ in reading.moves(state):
+                if after in layer:
+                    later[after] = later.get(after, 0) + many
+        ways = later
+    return sum([many for state, many in ways.items() if reading.is_over(state)])
 
 
 def read_back(reading, layers):

@@ -246,6 +246,13 @@ class Logs(unittest.TestCase):
         self.assertTrue(explains(program, log, ("asks",), thing))
         self.assertTrue(is_explanation(program, log, ("asks",), thing))
 
+    def test_very_many_explanations(self):
+        """Each line between two lines of the log may have failed or not."""
+        program = read_program("while c do times 490 do a ; b end end")
+        log = [("c", 0)] * 200
+        self.assertEqual([lost(program, log, ("asks",)), fits(program, log, ("asks",))], [199 * 980, 1])
+        self.assertEqual(explanations(program, log[:100], ("asks",)).bit_length(), 99 * 980 + 1)
+
     def test_large_statuses(self):
         large = 10 ** 5000
         program = main(A)
