@@ -43,6 +43,12 @@ class Classes(unittest.TestCase):
             self.check(["asks"] * (size - 1) + ["b"], [((state + 1) % size, state, 0) for state in range(size)])
             self.check(["asks"] * (size - 1) + ["b"], [(0, (state + 1) % size, state) for state in range(size)])
 
+    def test_blocks_that_wait_while_they_are_split(self):
+        """With one block too few looked at again, states of these would not be told apart."""
+        self.check([9, 0, 0, 0, 0, 0, 0, 0], [(), (0, 5, 1), (3, 4, 6), (2, 5, 2), (0, 5, 7), (6, 7, 6), (0, 1, 6), (2, 5, 4)])
+        self.check([1, 0, 1, 0, 1, 0], [(3, 3, 3), (3, 4, 3), (2, 2, 3), (2, 5, 1), (3, 5, 2), (1, 0, 0)])
+        self.check([1, 0, 9, 9, 1, 0, 0, 1], [(1, 0, 2), (6, 5, 6), (), (), (6, 5, 5), (7, 7, 6), (7, 7, 0), (3, 0, 3)])
+
     def test_two_alike_parts(self):
         first = [(1, 2, 0), (2, 2, 1), (0, 1, 1)]
         second = [tuple(3 + other for other in row) for row in first]
