@@ -183,6 +183,16 @@ class Language(unittest.TestCase):
                         self.assertNotIn(called(part), ("zip", "enumerate", "reversed", "items", "keys", "values", "map"),
                                          (name, node.lineno))
 
+    def test_methods_with_underscores_only_return(self):
+        for name, node in self.nodes(ast.FunctionDef):
+            if node.name in ("__eq__", "__len__", "__str__", "__repr__"):
+                body = [part for part in node.body if not isinstance(part, ast.Expr)]
+                self.assertEqual([type(part) for part in body], [ast.Return], (name, node.name))
+
+    def test_no_generators(self):
+        # A class compares, so that lists are asked for beside any, all, sum and the like.
+        self.assertEqual(self.nodes(ast.GeneratorExp, ast.Yield, ast.YieldFrom), [])
+
     def test_is_only_with_constants(self):
         for name, node in self.nodes(ast.Compare):
             for sign, right in zip(node.ops, node.comparators):
