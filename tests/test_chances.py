@@ -336,8 +336,15 @@ class Limits(unittest.TestCase):
     def test_thousand_situations(self):
         self.check_fits("times 499 do a ; b end", HALF)
         self.check_too_large("times 499 do a ; b end ; c", {**HALF, "c": (1, 2)}, 1000)
-        # One thousand situations, and one more because two commands end the program.
-        self.check_too_large("a || exit 3 ; times 498 do a ; b end ; if a then b else c end", {**HALF, "c": (1, 2)}, 1000)
+        # Two commands end the program with their failures, so that there is one more with names.
+        chances = {**HALF, "c": (1, 2), "d": (0, 1)}
+        for rounds, many in ((994, 999), (995, 1000)):
+            text = f"times {rounds} do d end ; if a then b else c end"
+            self.assertEqual(situations(read_program(text)), many)
+            if many == 999:
+                self.check_fits(text, chances)
+            else:
+                self.check_too_large(text, chances, 1000)
 
     def test_order_of_limits(self):
         large = "times 500 do a ; b end ; " + loop_of(60)
