@@ -62,6 +62,27 @@ class Relation(unittest.TestCase):
                         self.assertNotEqual(run(one, part), run(other, part))
                     self.assertLessEqual(fewest, sum(value > 0 for value in row))
 
+    def test_failures_of_parting_rows_are_no_numbers_of_programs(self):
+        for number in (1, 2, 254, 255):
+            for more in range(4):
+                start = [A] * more
+                one, other = main(*start, B), main(*start, ("or", B, ("status", number)))
+                row = parting_row(one, other)
+                self.assertEqual(len(row), more + 1)
+                self.assertTrue(shows_parting(one, other, row), row)
+
+    def test_links_of_other_kinds(self):
+        program = main(A)
+        paper = alike_paper(program, program)
+        place = [at for at, (i, _, links) in enumerate(paper) if links][0]
+        i, j, links = paper[place]
+        self.assertEqual(links, ((0, 0),))
+        for link in (None, 0, (), (0,), (0, 0, 0), [0, 0], "00", b"00", {0: 0}, (0, None), (None, 0), (False, 0), (0, False), ("0", 0),
+                     ((0,), 0), object(), Live(program), (0, 1j)):
+            for value in ((link,), (link, (0, 0)), ((0, 0), link)):
+                self.assertIs(shows_alike(program, program, paper[:place] + [(i, j, value)] + paper[place + 1:]), False, value)
+                self.assertIs(shows_alike(program, program, paper + [(i, j, value)]), False, value)
+
     def test_sure_commands(self):
         for programs in families():
             for one, other in itertools.combinations(programs[:5], 2):
